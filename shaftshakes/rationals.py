@@ -1,0 +1,69 @@
+"""Whole numbers and fractions: pairs (n, m) without a common divisor, m above 0."""
+
+from math import gcd
+
+
+def is_whole(value):
+    """Tell whether a value is a whole number; True and False are none."""
+    return isinstance(value, int) and not isinstance(value, bool)
+
+
+def is_fraction(value):
+    """Tell whether a value, whatever it is, is a fraction."""
+    if not isinstance(value, tuple) or len(value) != 2:
+        return False
+    top, bottom = value
+    if not is_whole(top) or not is_whole(bottom):
+        return False
+    return bottom > 0 and gcd(top, bottom) == 1
+
+
+def lowest(top, bottom):
+    """Return top / bottom as a fraction; bottom is not 0."""
+    shared = gcd(top, bottom)
+    if bottom < 0:
+        shared = -shared
+    return (top // shared, bottom // shared)
+
+
+def sign_of(number):
+    """Return 1, 0 or -1 for a whole number above 0, for 0, for one below 0."""
+    if number > 0:
+        return 1
+    if number < 0:
+        return -1
+    return 0
+
+
+def count_changes(numbers):
+    """Return the number of sign changes in a row, noughts passed over."""
+    changes = 0
+    last = 0
+    for number in numbers:
+        sign = sign_of(number)
+        if sign != 0:
+            if sign == -last:
+                changes += 1
+            last = sign
+    return changes
+
+
+def compare_fractions(first, second):
+    """Return the sign of the first fraction less the second one."""
+    return sign_of(first[0] * second[1] - second[0] * first[1])
+
+
+def middle(first, second):
+    """Return the fraction half way from the first one to the second one."""
+    return lowest(first[0] * second[1] + second[0] * first[1], 2 * first[1] * second[1])
+
+
+def inverse_modulo(number, modulus):
+    """Return the inverse of a number that has no common divisor with the modulus."""
+    above, below = modulus, number % modulus
+    above_times, below_times = 0, 1
+    while below:
+        times, rest = divmod(above, below)
+        above, below = below, rest
+        above_times, below_times = below_times, above_times - times * below_times
+    return above_times % modulus

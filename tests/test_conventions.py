@@ -1,0 +1,283 @@
+"""Arguments: names, wrong ones, several wrong ones, and the interface as the document lists it."""
+
+import copy
+import inspect
+import itertools
+import unittest
+
+from shaftshakes import changes, errors, lines, lots, points, polynomials, shapes
+
+
+class Odd:
+    """A value that resents being looked at."""
+
+    def __eq__(self, other):
+        raise RuntimeError("compared")
+
+    def __bool__(self):
+        raise RuntimeError("tested")
+
+    def __len__(self):
+        raise RuntimeError("measured")
+
+    def __iter__(self):
+        raise RuntimeError("iterated over")
+
+    __hash__ = None
+
+
+def nested(depth):
+    value = 1
+    for _ in range(depth):
+        value = (value,)
+    return value
+
+
+# What is right for no parameter at all.
+ALWAYS_WRONG = [True, False, "", "(1, 2)", "12", b"ab", b"", [], [1, 2], [(1, 2), 0], {}, {1: 2}, {1, 2},
+                object(), Odd(), (Odd(), Odd()), (1, Odd()), int, len, Ellipsis, range(2), nested(14), ((),),
+                ([], 0), ([-2, 0, 1], 0), ((1, True), 2), (True, 1), (1, True), (True, True), (None, None),
+                (1, 0), (1, -2), (2, 4), (0, 2), (-3, 3), ("1", "2"), ((-2, 0, 1), "0"), ((-2, 0, 1), True),
+                [[], []], ((), ()), (((),), ((),)), ((True,), (1,)), (((1, 1),), [(0, 1), (0, 1)]),
+                ([(1, 1)], ((0, 1), (0, 1)))]
+
+FRACTION, KNOT, POLYNOMIAL = (-3, 7), ((-2, 0, 1), 1), (2, -4, -1, 2)
+THREE = (((1, 1), (1, 1), (1, 1)), ((0, 1), (1, 1), (1, 1), (0, 1)))
+HELD = (((1, 1), (2, 1)), ((1, 1), (1, 2), (0, 1)))
+LOT = (((0, 1), True, ((-2, 0, 1), 1), False), ((3, 2), True, None, False))
+
+NO_KNOTS = [((-2, 0, 1), 2), ((-2, 0, 1), -1), ((-4, 0, 2), 0), ((2, 0, -1), 0), ((-1, 0, 1), 0),
+            ((4, 0, -4, 0, 1), 0),
+            ((0, -2, 0, 1), 0), ((1, 0, 1), 0), ((-2, 1), 0), ((5,), 0), ((), 0), ((-2, 0, 1, 0), 0),
+            ((-2, 0, 1), (0, 1)),
+            ((-2, 0, 1), None), ((-2, 0, 1), 1, 1), ((-2, 0, 1),), (0, (-2, 0, 1)), ((2, -4, -1, 2), 0)]
+NO_POLYNOMIALS = [None, 0, 1, -2, (0,), (1, 0), (0, 0), (1, 2, 0), (1, "2"), (1, (2,)), (1, None), ((1, 2), (3, 4)),
+                  [1, 2]]
+NO_FRACTIONS = [0, 1, -1, (), (1,), (1, 2, 3), (4, 2), (0, 3), (0, -1), (1, -1), (3, 0), (1, 2, 1), ((1, 2), (3, 4)),
+                KNOT]
+NO_POINTS = [None] + NO_KNOTS + [0, 1, -1, (), (1,), (1, 2, 3), (4, 2), (0, 3), (3, 0), (1, -1)]
+NO_LOTS = [None, 0, (0, 1), (1, 2), (((0, 1), True, (1, 1), True, 1),), (((0, 1), True, (1, 1)),),
+           ((0, 1), True, (1, 1), True), [((0, 1), True, (1, 1), True)], ([(0, 1), True, (1, 1), True],),
+           (((0, 1), 1, (1, 1), 1),), (((0, 1), True, (1, 1), 0),), (((0, 1), 0, (1, 1), True),),
+           (((0, 1), None, (1, 1), True),), (((0, 1), True, (1, 1), None),),
+           (((0, 1), True, None, True),), ((None, False, (1, 1), True),), (((-1, 1), True, (1, 1), True),),
+           (((-1, 1), True, (-1, 2), True), ((0, 1), True, None, False)), ((((-2, 0, 1), 0), True, (1, 1), True),),
+           (((1, 1), True, (0, 1), True),), (((1, 1), True, (1, 1), False),), (((1, 1), False, (1, 1), True),),
+           (((1, 1), False, (1, 1), False),), (((0, 1), True, None, False), ((1, 1), True, (2, 1), True)),
+           (((0, 1), True, None, False), ((1, 1), True, None, False)),
+           (((0, 1), True, (1, 1), True), ((1, 1), True, (2, 1), True)),
+           (((0, 1), True, (1, 1), True), ((1, 1), False, (2, 1), True)),
+           (((0, 1), True, (1, 1), False), ((1, 1), True, (2, 1), True)),
+           (((0, 1), True, (2, 1), True), ((1, 1), True, (3, 1), True)),
+           (((2, 1), True, (3, 1), True), ((0, 1), True, (1, 1), True)),
+           (((0, 1), True, KNOT, True), (((6, 0, -5, 0, 1), 2), False, None, False)),
+           (((0, 1), True, KNOT, False), (((6, 0, -5, 0, 1), 2), True, None, False)),
+           ((KNOT, True, ((6, 0, -5, 0, 1), 2), False),), (((0, 1), True, (2, 2), True),)]
+NO_LINES = [None, 0, (), ((), ()), ((), ((0, 1),)), (((1, 1),), ((0, 1),)), (((1, 1),), ((0, 1), (0, 1), (0, 1))),
+            (((0, 1),), ((0, 1), (0, 1))), (((-1, 1),), ((0, 1), (0, 1))), (((1, 1),), ((-1, 1), (0, 1))),
+            (((1, 1),), ((0, 1), (-1, 1))), (((2, 2),), ((0, 1), (0, 1))), (((1, 1),), ((0, 2), (0, 1))),
+            (((1, 1), (1, 1)), ((0, 1), (0, 1), (0, 1))), (((1, 1), (1, 1)), ((0, 1), (-1, 1), (0, 1))),
+            ((1, 1), ((0, 1), (0, 1))), (((1, 1),), ((0, 1), (0, 1)), ()), [((1, 1),), ((0, 1), (0, 1))],
+            (((1, 1),), ((0, 1), None)), ((None,), ((0, 1), (0, 1))), (((1, 1),), ((0, 1), KNOT)),
+            (((1, 1),) * 9, ((1, 1),) * 10), (((True, 1),), ((0, 1), (0, 1)))]
+NO_INDEXES_OF_THREE = [None, -1, 3, 4, 10 ** 30, (0, 1), (1, 1), "0", ()]
+NO_INDEXES_OF_TWO = [None, -1, 2, (0, 1), ()]
+NO_SHAFTS_OF_THREE = [None, -1, 4, 10 ** 30, (0, 1), "0", ()]
+NO_NUMBERS = [None, 0, -1, 10 ** 12 + 1, (1, 1), ()]
+BELOW_NOUGHT = [(-1, 1), (-1, 10 ** 300)]
+NO_AMOUNTS = NO_FRACTIONS + [None, (0, 1)] + BELOW_NOUGHT
+
+POLYNOMIAL_KIND = ("InvalidPolynomial", POLYNOMIAL, NO_POLYNOMIALS)
+FRACTION_KIND = ("InvalidFraction", FRACTION, NO_FRACTIONS + [None])
+BOUND_KIND = ("InvalidFraction", FRACTION, NO_FRACTIONS)
+WIDTH_KIND = ("InvalidFraction", (1, 9), NO_FRACTIONS + [None, (0, 1)] + BELOW_NOUGHT)
+POINT_KIND = ("InvalidPoint", KNOT, NO_POINTS)
+OTHER_POINT_KIND = ("InvalidPoint", (1, 2), NO_POINTS)
+PACE_POINT_KIND = ("InvalidPoint", KNOT, NO_POINTS + BELOW_NOUGHT + [((-2, 0, 1), 0), ((6, 0, -5, 0, 1), 1)])
+LOT_KIND = ("InvalidLot", LOT, NO_LOTS)
+LINE_KIND = ("InvalidLine", THREE, NO_LINES)
+HELD_KIND = ("InvalidLine", HELD, NO_LINES)
+INDEX_KIND = ("InvalidIndex", 2, NO_INDEXES_OF_THREE)
+DISC_KIND = ("InvalidDisc", 1, NO_INDEXES_OF_THREE)
+SHAFT_KIND = ("InvalidShaft", 1, NO_SHAFTS_OF_THREE)
+REST_SHAFT_KIND = ("InvalidShaft", 1, NO_SHAFTS_OF_THREE + [0, 3])
+PACE_KIND = ("InvalidPace", (1, 2), NO_FRACTIONS + [None] + BELOW_NOUGHT)
+AMOUNT_KIND = ("InvalidAmount", (5, 2), NO_AMOUNTS)
+NUMBER_KIND = ("InvalidNumber", 1, NO_INDEXES_OF_TWO)
+MANY_KIND = ("InvalidNumber", 10, NO_NUMBERS)
+
+INTERFACE = {
+    polynomials: {
+        "value_at": {"polynomial": POLYNOMIAL_KIND, "fraction": FRACTION_KIND},
+        "common_divisor": {"polynomial": POLYNOMIAL_KIND, "other": POLYNOMIAL_KIND},
+        "plain_polynomial": {"polynomial": POLYNOMIAL_KIND},
+        "times_of": {"polynomial": POLYNOMIAL_KIND, "fraction": FRACTION_KIND},
+        "count_roots": {"polynomial": POLYNOMIAL_KIND, "low": BOUND_KIND, "high": BOUND_KIND},
+    },
+    points: {
+        "roots_of": {"polynomial": POLYNOMIAL_KIND},
+        "sign_at": {"polynomial": POLYNOMIAL_KIND, "point": POINT_KIND},
+        "compare_points": {"point": POINT_KIND, "other": OTHER_POINT_KIND},
+        "fraction_between": {"point": POINT_KIND, "other": OTHER_POINT_KIND},
+        "enclosed": {"point": POINT_KIND, "fraction": WIDTH_KIND},
+    },
+    lots: {
+        "lot_holds": {"lot": LOT_KIND, "point": PACE_POINT_KIND},
+        "lot_both": {"lot": LOT_KIND, "other": LOT_KIND},
+        "lot_either": {"lot": LOT_KIND, "other": LOT_KIND},
+        "lot_rest": {"lot": LOT_KIND},
+        "are_same_lots": {"lot": LOT_KIND, "other": LOT_KIND},
+        "any_pace": {"lot": LOT_KIND},
+    },
+    lines: {
+        "run_of": {"line": LINE_KIND},
+        "paces_of": {"line": LINE_KIND},
+        "slower_count": {"line": LINE_KIND, "pace": PACE_KIND},
+        "compare_pace": {"line": LINE_KIND, "index": INDEX_KIND, "point": POINT_KIND},
+        "compare_swings": {"line": LINE_KIND, "index": INDEX_KIND, "other": HELD_KIND, "number": NUMBER_KIND},
+        "mirrored_line": {"line": LINE_KIND},
+    },
+    shapes: {
+        "signs_of": {"line": LINE_KIND, "index": INDEX_KIND},
+        "resting_discs": {"line": LINE_KIND, "index": INDEX_KIND},
+        "untwisted_shafts": {"line": LINE_KIND, "index": INDEX_KIND},
+        "rest_places": {"line": LINE_KIND, "index": INDEX_KIND},
+        "rest_share": {"line": LINE_KIND, "index": INDEX_KIND, "shaft": REST_SHAFT_KIND, "many": MANY_KIND},
+        "compare_turns": {"line": LINE_KIND, "index": INDEX_KIND, "disc": DISC_KIND, "other": DISC_KIND},
+    },
+    changes: {
+        "with_disc": {"line": LINE_KIND, "disc": DISC_KIND, "amount": AMOUNT_KIND},
+        "with_shaft": {"line": LINE_KIND, "shaft": SHAFT_KIND, "amount": AMOUNT_KIND},
+        "held_parts": {"line": LINE_KIND, "disc": DISC_KIND},
+        "change_signs": {"line": LINE_KIND, "other": ("InvalidLine", THREE, NO_LINES)},
+    },
+}
+ASKED = {polynomials: ["is_polynomial"], points: ["is_knot", "is_point"], lots: ["is_lot"], lines: ["is_line"]}
+
+
+def wrong_values(kind):
+    """What is wrong for a kind: values that are wrong for all, and those told for it."""
+    name, _, told = kind
+    always = ALWAYS_WRONG
+    if name == "InvalidPolynomial":
+        # What is no fraction may well be a polynomial.
+        always = [value for value in always if not looks_like_a_polynomial(value)]
+    return always + told
+
+
+def looks_like_a_polynomial(value):
+    return type(value) is tuple and all(type(part) is int for part in value) and (not value or value[-1] != 0)
+
+
+def functions():
+    for module, table in INTERFACE.items():
+        for name, kinds in table.items():
+            yield getattr(module, name), kinds
+
+
+class Interface(unittest.TestCase):
+    def test_names_and_parameters(self):
+        for function, kinds in functions():
+            with self.subTest(function=function.__name__):
+                parameters = list(inspect.signature(function).parameters.values())
+                self.assertEqual(list(kinds), [each.name for each in parameters])
+                for each in parameters:
+                    self.assertEqual(each.POSITIONAL_OR_KEYWORD, each.kind)
+                    self.assertIs(each.empty, each.default)
+        for module, names in ASKED.items():
+            for name in names:
+                self.assertEqual(["value"], list(inspect.signature(getattr(module, name)).parameters))
+
+    def test_each_stands_in_its_own_file(self):
+        for module in INTERFACE:
+            for name in list(INTERFACE[module]) + ASKED.get(module, []):
+                self.assertEqual(module.__name__, getattr(module, name).__module__)
+
+    def test_by_position_and_by_name_and_twice(self):
+        for function, kinds in functions():
+            with self.subTest(function=function.__name__):
+                right = {name: kind[1] for name, kind in kinds.items()}
+                before = copy.deepcopy(right)
+                found = function(*right.values())
+                self.assertEqual(found, function(**right))
+                self.assertEqual(found, function(**dict(reversed(right.items()))))
+                self.assertEqual(found, function(*right.values()))
+                self.assertEqual(before, right)
+
+    def test_results_are_plain_values(self):
+        def check(value):
+            self.assertIn(type(value), (tuple, int, bool, str, type(None)))
+            if type(value) is tuple:
+                for part in value:
+                    check(part)
+
+        for function, kinds in functions():
+            with self.subTest(function=function.__name__):
+                check(function(*[kind[1] for kind in kinds.values()]))
+
+
+class WrongArguments(unittest.TestCase):
+    def check(self, function, arguments, error, given):
+        kind = getattr(errors, error)
+        calls = (lambda: function(*arguments.values()), lambda: function(**arguments))
+        for call in calls:
+            with self.assertRaises(errors.ShaftError) as caught:
+                call()
+            self.assertIs(kind, type(caught.exception))
+            self.assertIs(given, caught.exception.given)
+
+    def test_each_wrong_by_itself(self):
+        for function, kinds in functions():
+            right = {name: kind[1] for name, kind in kinds.items()}
+            for name, kind in kinds.items():
+                for place, wrong in enumerate(wrong_values(kind)):
+                    with self.subTest(function=function.__name__, parameter=name, place=place):
+                        self.check(function, {**right, name: wrong}, kind[0], wrong)
+
+    def test_several_wrong_at_once(self):
+        for function, kinds in functions():
+            right = {name: kind[1] for name, kind in kinds.items()}
+            for size in range(2, len(kinds) + 1):
+                for names in itertools.combinations(kinds, size):
+                    for wrong in (None, [], "no", Odd()):
+                        if wrong is None and kinds[names[0]] is BOUND_KIND:
+                            continue
+                        with self.subTest(function=function.__name__, parameters=names):
+                            arguments = {**right, **{name: wrong for name in names}}
+                            self.check(function, arguments, kinds[names[0]][0], wrong)
+
+    def test_different_wrong_values_tell_which_was_checked_first(self):
+        for function, kinds in functions():
+            if BOUND_KIND in kinds.values():
+                continue
+            wrong = {name: [name] for name in kinds}
+            names = list(kinds)
+            right = {name: kind[1] for name, kind in kinds.items()}
+            for first in range(len(names)):
+                arguments = {**wrong, **{name: right[name] for name in names[:first]}}
+                self.check(function, arguments, kinds[names[first]][0], wrong[names[first]])
+
+    def test_wrong_arguments_stay_as_they_are(self):
+        for function, kinds in functions():
+            for name, kind in kinds.items():
+                wrong = [[-2, 0, 1], {"a": [1]}]
+                before = copy.deepcopy(wrong)
+                with self.assertRaises(getattr(errors, kind[0])):
+                    function(**{**{each: told[1] for each, told in kinds.items()}, name: wrong})
+                self.assertEqual(before, wrong)
+
+    def test_asked_whatever_it_is(self):
+        told = {"is_polynomial": POLYNOMIAL_KIND, "is_point": POINT_KIND, "is_lot": LOT_KIND, "is_line": LINE_KIND,
+                "is_knot": ("InvalidPoint", KNOT, NO_POINTS + [FRACTION, (0, 1), (5, 1)])}
+        for module, names in ASKED.items():
+            for name in names:
+                function = getattr(module, name)
+                self.assertIs(True, function(told[name][1]))
+                self.assertIs(True, function(value=told[name][1]))
+                for place, wrong in enumerate(wrong_values(told[name])):
+                    with self.subTest(function=name, place=place):
+                        self.assertIs(False, function(wrong))
+
+
+if __name__ == "__main__":
+    unittest.main()
