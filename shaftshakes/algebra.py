@@ -22,17 +22,6 @@ def blend(first, times, second, other_times):
     return trimmed(sums)
 
 
-def multiplied(first, second):
-    """Return the product of two polynomials."""
-    if not first or not second:
-        return ()
-    sums = [0] * (len(first) + len(second) - 1)
-    for place, number in enumerate(first):
-        for other_place, other_number in enumerate(second):
-            sums[place + other_place] += number * other_number
-    return tuple(sums)
-
-
 def raised(polynomial):
     """Return the polynomial times its variable."""
     if not polynomial:

@@ -19,10 +19,8 @@ def is_fraction(value):
 
 
 def lowest(top, bottom):
-    """Return top / bottom as a fraction; bottom is not 0."""
+    """Return top / bottom as a fraction; bottom is above 0."""
     shared = gcd(top, bottom)
-    if bottom < 0:
-        shared = -shared
     return (top // shared, bottom // shared)
 
 

@@ -38,9 +38,12 @@ def resting_discs(line, index):
 def untwisted_shafts(line, index):
     """Return the ascending tuple of the inner shafts that are untwisted in a swing."""
     _, torques, pace = swing_of(line, index)
+    shafts = []
     # An inner shaft is untwisted where its torque is 0; the torques begin with that of shaft 1.
-    inner = range(1, len(torques))
-    return tuple([shaft for shaft in inner if sign_at_place(torques[shaft - 1], pace) == 0])
+    for place, torque in enumerate(torques[:-1]):
+        if sign_at_place(torque, pace) == 0:
+            shafts.append(place + 1)
+    return tuple(shafts)
 
 
 def rest_places(line, index):
