@@ -19,10 +19,13 @@ def is_prime(number):
     return True
 
 
-def fitting_prime(polynomial):
-    """Return a prime modulo which a plain polynomial keeps its degree and has no double root."""
+def fitting_prime(polynomial, least):
+    """Return the first prime from a number on that fits a plain polynomial.
+
+    Modulo the prime it keeps its degree and has no double root.
+    """
     slope = derivative(polynomial)
-    prime = 2
+    prime = least
     while True:
         if is_prime(prime) and polynomial[-1] % prime != 0:
             if len(divisor_modulo(polynomial, slope, prime)) == 1:
@@ -57,7 +60,7 @@ def fractions_among_roots(polynomial):
     lead = polynomial[-1]
     # No root is as great as 1 and the greatest quotient of a number and the lead.
     bound = 2 * (lead + max([abs(number) for number in polynomial]))
-    prime = fitting_prime(polynomial)
+    prime = fitting_prime(polynomial, 2)
     found = []
     for residue in range(prime):
         if value_modulo(polynomial, residue, prime) != 0:

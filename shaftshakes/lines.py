@@ -6,6 +6,7 @@ from shaftshakes.places import compare_places, fraction_place
 from shaftshakes.points import check_point
 from shaftshakes.rationals import count_changes, is_fraction, is_whole
 from shaftshakes.runs import end_places, run_signs, thinned_run
+from shaftshakes.telling import told_points
 
 MOST_DISCS = 8
 
@@ -73,7 +74,7 @@ def run_of(line):
 def paces_of(line):
     """Return the ascending tuple of the points of all paces."""
     check_line(line)
-    return tuple([place.told for place in end_places(line)])
+    return told_points(end_places(line))
 
 
 def slower_count(line, pace):

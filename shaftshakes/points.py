@@ -5,6 +5,7 @@ from shaftshakes.places import compare_places, fraction_between_places, fraction
 from shaftshakes.places import fractions_around, knot_cells, knot_place, real_places, sign_at_place
 from shaftshakes.polynomials import check_polynomial, is_polynomial
 from shaftshakes.rationals import is_fraction, is_whole
+from shaftshakes.telling import told_points
 
 
 def read_point(value, known):
@@ -50,7 +51,7 @@ def roots_of(polynomial):
     check_polynomial(polynomial)
     if not polynomial:
         raise Nought()
-    return tuple([place.told for place in real_places(polynomial)])
+    return told_points(real_places(polynomial))
 
 
 def sign_at(polynomial, point):
