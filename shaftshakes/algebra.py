@@ -2,7 +2,7 @@
 
 from math import gcd
 
-from shaftshakes.rationals import sign_of
+from shaftshakes.rationals import lowest, sign_of
 
 
 def trimmed(numbers):
@@ -20,6 +20,17 @@ def blend(first, times, second, other_times):
     for place, number in enumerate(second):
         sums[place] += other_times * number
     return trimmed(sums)
+
+
+def product_of(first, second):
+    """Return the product of two polynomials."""
+    if not first or not second:
+        return ()
+    sums = [0] * (len(first) + len(second) - 1)
+    for place, number in enumerate(first):
+        for step, other_number in enumerate(second):
+            sums[place + step] += number * other_number
+    return tuple(sums)
 
 
 def raised(polynomial):
@@ -44,18 +55,26 @@ def content(polynomial):
     return shared
 
 
+def shrunk(polynomial, divisor):
+    """Return the polynomial divided by a whole number that divides all its numbers."""
+    return tuple([number // divisor for number in polynomial])
+
+
 def thinned(polynomial):
     """Return the polynomial, not (), divided by the divisor that all its numbers share."""
-    shared = content(polynomial)
-    return tuple([number // shared for number in polynomial])
+    return shrunk(polynomial, content(polynomial))
+
+
+def thinned_together(first, second):
+    """Return two polynomials, not both (), divided by the divisor that all their numbers share."""
+    shared = content(first + second)
+    return (shrunk(first, shared), shrunk(second, shared))
 
 
 def reduced(polynomial):
     """Return the polynomial, not (), thinned and with a positive lead."""
     shared = content(polynomial)
-    if polynomial[-1] < 0:
-        shared = -shared
-    return tuple([number // shared for number in polynomial])
+    return shrunk(polynomial, -shared if polynomial[-1] < 0 else shared)
 
 
 def whole_quotient(polynomial, divisor):
@@ -99,6 +118,14 @@ def dyadic_value(polynomial, top, bits):
 def fraction_sign(polynomial, fraction):
     """Return the sign of the polynomial at a fraction."""
     return sign_of(scaled_value(polynomial, fraction[0], fraction[1]))
+
+
+def fraction_value(polynomial, fraction):
+    """Return the value of the polynomial at a fraction, as a fraction."""
+    scale = 1
+    for _ in polynomial[1:]:
+        scale *= fraction[1]
+    return lowest(scaled_value(polynomial, fraction[0], fraction[1]), scale)
 
 
 def span_sign(polynomial, low, high, bits):

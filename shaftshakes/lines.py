@@ -2,10 +2,10 @@
 
 from shaftshakes.errors import InvalidDisc, InvalidIndex, InvalidLine
 from shaftshakes.errors import InvalidNumber, InvalidPace, InvalidShaft
-from shaftshakes.places import compare_places, fraction_place
+from shaftshakes.places import compare_places
 from shaftshakes.points import check_point
-from shaftshakes.rationals import count_changes, is_fraction, is_whole
-from shaftshakes.runs import end_places, run_signs, thinned_run
+from shaftshakes.rationals import compare_fractions, count_changes, is_fraction_from_nought, is_index
+from shaftshakes.runs import count_slower, end_places, run_signs, thinned_run
 from shaftshakes.telling import told_points
 
 MOST_DISCS = 8
@@ -15,7 +15,7 @@ def is_row_of_fractions(value, size):
     """Tell whether a value, whatever it is, is a tuple of so many fractions from 0 on."""
     if not isinstance(value, tuple) or len(value) != size:
         return False
-    return all([is_fraction(number) and number[0] >= 0 for number in value])
+    return all([is_fraction_from_nought(number) for number in value])
 
 
 def is_line(value):
@@ -34,11 +34,6 @@ def check_line(given):
     """Raise InvalidLine for what is no line."""
     if not is_line(given):
         raise InvalidLine(given)
-
-
-def is_index(value, size):
-    """Tell whether a value, whatever it is, is a whole number from 0 on and below the size."""
-    return is_whole(value) and 0 <= value < size
 
 
 def check_disc(line, given):
@@ -61,8 +56,16 @@ def check_index(line, given):
 
 def check_pace(given):
     """Raise InvalidPace for what is no fraction from 0 on."""
-    if not is_fraction(given) or given[0] < 0:
+    if not is_fraction_from_nought(given):
         raise InvalidPace(given)
+
+
+def check_span(low, high):
+    """Raise InvalidPace for what is no fraction from 0 on, and for a higher one that is not above."""
+    check_pace(low)
+    check_pace(high)
+    if compare_fractions(low, high) >= 0:
+        raise InvalidPace(high)
 
 
 def run_of(line):
@@ -81,7 +84,7 @@ def slower_count(line, pace):
     """Return how many swings are slower than the pace."""
     check_line(line)
     check_pace(pace)
-    return count_changes(run_signs(thinned_run(line), fraction_place(pace)))
+    return count_slower(line, pace)
 
 
 def compare_pace(line, index, point):

@@ -65,6 +65,14 @@ def check_lot(given, known):
     return cuts
 
 
+def check_pace_point(given, known):
+    """Return the place of a point from 0 on; raise InvalidPoint for what is none."""
+    place = check_point(given, known)
+    if compare_places(place, fraction_place(NOUGHT)) < 0:
+        raise InvalidPoint(given)
+    return place
+
+
 def lot_of_cuts(cuts):
     """Return the lot that has these cuts."""
     stretches = []
@@ -110,9 +118,7 @@ def lot_holds(lot, point):
     """Tell whether a point from 0 on is in the lot."""
     known = {}
     cuts = check_lot(lot, known)
-    place = check_point(point, known)
-    if compare_places(place, fraction_place(NOUGHT)) < 0:
-        raise InvalidPoint(point)
+    place = check_pace_point(point, known)
     passed = [cut for cut in cuts if compare_cuts(cut, (place, 0)) <= 0]
     return len(passed) % 2 == 1
 

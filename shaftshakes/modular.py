@@ -1,6 +1,6 @@
 """Polynomials modulo a whole number: products, quotients by such with the lead 1, factors."""
 
-from shaftshakes.algebra import blend, raised, trimmed
+from shaftshakes.algebra import blend, product_of, raised, trimmed
 from shaftshakes.divisors import divisor_modulo
 from shaftshakes.rationals import inverse_modulo
 
@@ -18,13 +18,7 @@ def monic_modulo(polynomial, modulus):
 
 def product_modulo(first, second, modulus):
     """Return the product of two polynomials."""
-    if not first or not second:
-        return ()
-    sums = [0] * (len(first) + len(second) - 1)
-    for place, number in enumerate(first):
-        for step, other_number in enumerate(second):
-            sums[place + step] += number * other_number
-    return modulo(sums, modulus)
+    return modulo(product_of(first, second), modulus)
 
 
 def divided_modulo(polynomial, divisor, modulus):

@@ -1,10 +1,10 @@
 """Polynomials: tuples of whole numbers, the constant first, the last one not 0."""
 
-from shaftshakes.algebra import scaled_value, whole_quotient
+from shaftshakes.algebra import fraction_value, scaled_value, whole_quotient
 from shaftshakes.divisors import divisor_of_both, plain_of
 from shaftshakes.errors import InvalidFraction, InvalidPolynomial, Nought
 from shaftshakes.places import compare_places, fraction_place, real_places
-from shaftshakes.rationals import is_fraction, is_whole, lowest
+from shaftshakes.rationals import is_fraction, is_whole
 
 
 def is_polynomial(value):
@@ -32,10 +32,7 @@ def value_at(polynomial, fraction):
     """Return the value of the polynomial at a fraction, as a fraction."""
     check_polynomial(polynomial)
     check_fraction(fraction)
-    scale = 1
-    for _ in polynomial[1:]:
-        scale *= fraction[1]
-    return lowest(scaled_value(polynomial, fraction[0], fraction[1]), scale)
+    return fraction_value(polynomial, fraction)
 
 
 def common_divisor(polynomial, other):

@@ -65,3 +65,39 @@ def inverse_modulo(number, modulus):
         above, below = below, rest
         above_times, below_times = below_times, above_times - times * below_times
     return above_times % modulus
+
+
+def added(first, second):
+    """Return the sum of two fractions."""
+    return lowest(first[0] * second[1] + second[0] * first[1], first[1] * second[1])
+
+
+def subtracted(first, second):
+    """Return the first fraction less the second one."""
+    return lowest(first[0] * second[1] - second[0] * first[1], first[1] * second[1])
+
+
+def multiplied(first, second):
+    """Return the product of two fractions."""
+    return lowest(first[0] * second[0], first[1] * second[1])
+
+
+def divided(first, second):
+    """Return the first fraction divided by the second one, which is not 0."""
+    top, bottom = first[0] * second[1], first[1] * second[0]
+    return lowest(top, bottom) if bottom > 0 else lowest(-top, -bottom)
+
+
+def is_fraction_from_nought(value):
+    """Tell whether a value, whatever it is, is a fraction from 0 on."""
+    return is_fraction(value) and value[0] >= 0
+
+
+def is_amount(value):
+    """Tell whether a value, whatever it is, is a fraction above 0."""
+    return is_fraction(value) and value[0] > 0
+
+
+def is_index(value, size):
+    """Tell whether a value, whatever it is, is a whole number from 0 on and below the size."""
+    return is_whole(value) and 0 <= value < size

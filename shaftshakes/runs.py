@@ -4,7 +4,8 @@ An angle is told as a pair (POLYNOMIAL, SCALE): the polynomial divided by a whol
 """
 
 from shaftshakes.algebra import blend, raised, thinned
-from shaftshakes.places import real_places, sign_at_place
+from shaftshakes.places import fraction_place, real_places, sign_at_place
+from shaftshakes.rationals import count_changes
 
 
 def run_parts(line):
@@ -43,6 +44,17 @@ def run_signs(run, place):
     Just so many swings are slower as there are sign changes in it.
     """
     return [sign_at_place(polynomial, place) for polynomial in run]
+
+
+def count_slower(line, pace):
+    """Return how many swings are slower than a pace, a fraction."""
+    return count_changes(run_signs(thinned_run(line), fraction_place(pace)))
+
+
+def count_not_faster(line, pace):
+    """Return how many swings are not faster than a pace, a fraction."""
+    signs = run_signs(thinned_run(line), fraction_place(pace))
+    return count_changes(signs) + (1 if signs[-1] == 0 else 0)
 
 
 def angles_apart(first, second):

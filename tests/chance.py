@@ -55,5 +55,56 @@ def random_line(chance, size=None):
     return (tuple(discs), tuple(shafts))
 
 
+def random_between(chance, first, second):
+    """A fraction from the first one up to the second one, now and then one of both."""
+    part = chance.choice([0, 1, Fraction(1, 2), Fraction(chance.randint(0, 9), 9)])
+    return told(Fraction(*first) + part * (Fraction(*second) - Fraction(*first)))
+
+
+def random_line_of(chance, box):
+    """A line of a box."""
+    return tuple(tuple(random_between(chance, first, second) for first, second in zip(*rows))
+                 for rows in zip(*box))
+
+
+def random_box(chance, size=None):
+    """A box, some numbers of which, now and then all, are the same in both lines."""
+    fast = random_line(chance, size)
+    change = chance.choice([0, 0.2, 0.6, 1])
+    discs, shafts = [], []
+    for number in fast[0]:
+        more = Fraction(chance.randint(1, 6), chance.randint(2, 9)) if chance.random() < change else 0
+        discs.append(told(Fraction(*number) + more))
+    for place, number in enumerate(fast[1]):
+        less = Fraction(chance.randint(1, 5), 5) if chance.random() < change else 1
+        if place in (0, len(fast[0])) and chance.random() < change / 3:
+            less = 0
+        shafts.append(told(Fraction(*number) * less))
+    return ((tuple(discs), tuple(shafts)), fast)
+
+
+def random_slot(chance, line):
+    kind = chance.choice(["disc", "shaft"])
+    return (kind, chance.randrange(len(line[0] if kind == "disc" else line[1])))
+
+
+def random_machine(chance, size=None):
+    """A machine of one to eight discs, often with parts that are the same, so that paces come twice."""
+    size = size or chance.randint(1, 8)
+    most = chance.choice([1, 1, 2, 4, 30])
+    stays = [(0, 1)] * chance.choice([1, 3, 20]) + [random_number(chance, most)]
+    ratios = chance.choice([[1], [1, 1, -1], [1, 2, -2, Fraction(1, 2), Fraction(-3, 2)]])
+    twins = chance.choice([0, 0.3, 0.8])
+    machine = [(random_number(chance, most), chance.choice(stays))]
+    for place in range(1, size):
+        if place > 1 and chance.random() < twins:
+            disc = machine[-1][:2] + (chance.choice([machine[-1][2], chance.randrange(place)]),) + machine[-1][3:]
+        else:
+            disc = (random_number(chance, most), chance.choice(stays), chance.randrange(place),
+                    random_number(chance, most), told(chance.choice(ratios)))
+        machine.append(disc)
+    return tuple(machine)
+
+
 def sign(number):
     return (number > 0) - (number < 0)

@@ -149,9 +149,9 @@ def angles(line, pace):
     return found
 
 
-def slower(line, pace):
-    """How many swings are slower: how many of Sylvester's squares are below 0, by Lagrange's way."""
-    rows = table(line, pace)
+def squares(rows):
+    """How many of Sylvester's squares of a table are below 0, and how many are 0, by Lagrange's way."""
+    rows = [list(row) for row in rows]
     count = 0
     left = list(range(len(rows)))
     while left:
@@ -159,7 +159,7 @@ def slower(line, pace):
         if one is None:
             pair = [(j, k) for j in left for k in left if rows[j][k] != 0]
             if not pair:
-                return count
+                return count, len(left)
             j, k = pair[0]
             for step in left:
                 rows[j][step] += rows[k][step]
@@ -172,4 +172,38 @@ def slower(line, pace):
             times = rows[j][one] / rows[one][one]
             for k in left:
                 rows[j][k] -= times * rows[one][k]
-    return count
+    return count, 0
+
+
+def slower(line, pace):
+    """How many swings are slower than a pace."""
+    return squares(table(line, pace))[0]
+
+
+def not_faster(line, pace):
+    """How many swings are not faster than a pace."""
+    return sum(squares(table(line, pace)))
+
+
+def machine_table(machine, pace):
+    """The table K - L J of a machine at a pace."""
+    rows = [[Fraction(0)] * len(machine) for _ in machine]
+    for place, disc in enumerate(machine):
+        rows[place][place] += Fraction(*disc[1]) - Fraction(pace) * Fraction(*disc[0])
+        if place:
+            parent, stiffness, ratio = disc[2], Fraction(*disc[3]), Fraction(*disc[4])
+            rows[place][place] += stiffness
+            rows[parent][parent] += ratio * ratio * stiffness
+            rows[place][parent] -= ratio * stiffness
+            rows[parent][place] -= ratio * stiffness
+    return rows
+
+
+def answer(rows, shaken, other):
+    """How the other one goes if one is shaken by 1, by Cramer's rule; None if the table is singular."""
+    whole = determinant(rows)
+    if whole == 0:
+        return None
+    changed = [[Fraction(k == shaken) if place == other else number for place, number in enumerate(row)]
+               for k, row in enumerate(rows)]
+    return determinant(changed) / whole

@@ -5,7 +5,8 @@ import inspect
 import itertools
 import unittest
 
-from shaftshakes import changes, errors, lines, lots, points, polynomials, shapes
+from shaftshakes import amounts, answers, backs, boxes, changes, errors, lines, lots, machines, papers, points
+from shaftshakes import polynomials, readings, shapes
 
 
 class Odd:
@@ -103,7 +104,49 @@ SHAFT_KIND = ("InvalidShaft", 1, NO_SHAFTS_OF_THREE)
 REST_SHAFT_KIND = ("InvalidShaft", 1, NO_SHAFTS_OF_THREE + [0, 3])
 PACE_KIND = ("InvalidPace", (1, 2), NO_FRACTIONS + [None] + BELOW_NOUGHT)
 AMOUNT_KIND = ("InvalidAmount", (5, 2), NO_AMOUNTS)
+BOX = ((((1, 1), (2, 1), (1, 1)), THREE[1]), THREE)
+MACHINE = (((1, 1), (0, 1)), ((1, 1), (0, 1), 0, (1, 1), (2, 1)), ((3, 1), (1, 2), 0, (1, 1), (-1, 2)))
+NO_BOXES = [None, 0, (), THREE, (THREE,), (THREE, THREE, THREE), BOX[::-1], (HELD, THREE), (THREE, HELD), (BOX, BOX),
+            [THREE, THREE], (list(THREE), THREE), (THREE, None), (None, THREE), (MACHINE, MACHINE)]
+NO_MACHINES = [None, 0, (), THREE, BOX, MACHINE[1:], MACHINE[:1] * 2, MACHINE[:1] + MACHINE[1:] * 4, list(MACHINE),
+               (((1, 1), (0, 1), 0, (1, 1), (1, 1)),), (((1, 1),),), (((0, 1), (0, 1)),), (((1, 1), (-1, 1)),),
+               ([(1, 1), (0, 1)],), MACHINE[:1] + (((1, 1), (0, 1), 1, (1, 1), (1, 1)),),
+               MACHINE[:1] + (((1, 1), (0, 1), False, (1, 1), (1, 1)),),
+               MACHINE[:1] + (((1, 1), (0, 1), -1, (1, 1), (1, 1)),),
+               MACHINE[:1] + (((1, 1), (0, 1), 0, (0, 1), (1, 1)),),
+               MACHINE[:1] + (((1, 1), (0, 1), 0, (1, 1), (0, 1)),),
+               MACHINE[:1] + (((1, 1), (0, 1), 0, (1, 1)),), MACHINE[:1] + (((1, 1), (0, 1), 0, (1, 1), 1),)]
+NO_SLOTS = [None, 0, (), ("disc",), ("disc", 0, 0), ("disc", -1), ("disc", 3), ("shaft", 4), ("shaft", -1), ("disk", 0),
+            ("disc", True), ("disc", None), ("disc", (0, 1)), (0, "disc"), ["disc", 0], (None, 0), ("", 0), (b"disc", 0),
+            ("disc", "0"), (("disc", 0),), ("shaft", 10 ** 30)]
+NO_SIGNS = [None, 2, -2, 10 ** 30, (1, 1), (), "1"]
+NO_MOST = [None, 0, -1, 31, 10 ** 30, (1, 1), (), "1"]
+NO_SHAPES = [None, 0, (), (1, 2), (1, 2, 3, 4), (1, 2, True), (1, 2, None), (1, 2, "3"), [1, 2, 3], ((1, 1),) * 3]
+NO_COUNTS = [None, -1, 4, 10 ** 30, (1, 1), (), "1"]
+READINGS = (((1, 2), 1), ((7, 2), 3))
+NO_READINGS = [None, 0, (), ((1, 2), 1), (((0, 1), 1),), (READINGS[0], None), READINGS * 5, READINGS * 4 + (None,),
+               READINGS + (((1, 2), -1),), READINGS + (((1, 2), True),), READINGS + (((1, 2),),), list(READINGS),
+               (list(READINGS[0]),), (((1, 2), 1, 1),), ((KNOT, 1),), ((1, (1, 2)),), READINGS * 3 + ((1, 2),)]
+NO_PACES = NO_FRACTIONS + [None] + BELOW_NOUGHT
+
 NUMBER_KIND = ("InvalidNumber", 1, NO_INDEXES_OF_TWO)
+BOX_KIND = ("InvalidBox", BOX, NO_BOXES)
+MACHINE_KIND = ("InvalidMachine", MACHINE, NO_MACHINES)
+OTHER_MACHINE_KIND = ("InvalidMachine", MACHINE[:2], NO_MACHINES)
+SLOT_KIND = ("InvalidSlot", ("shaft", 1), NO_SLOTS)
+SIGN_KIND = ("InvalidSign", -1, NO_SIGNS)
+LEVEL_KIND = ("InvalidFraction", (1, 2), NO_PACES)
+MOST_KIND = ("InvalidNumber", 3, NO_MOST)
+LOW_KIND = ("InvalidPace", (5, 2), NO_PACES)
+HIGH_KIND = ("InvalidPace", (11, 4), NO_PACES + [(5, 2), (2, 1), (0, 1)])
+SHAPE_KIND = ("InvalidShape", (1, -2, 10 ** 30), NO_SHAPES)
+MOVED_SHAPE_KIND = ("InvalidShape", (1, 0, 0), NO_SHAPES + [(0, 0, 0)])
+COUNT_KIND = ("InvalidNumber", 1, NO_COUNTS)
+READINGS_KIND = ("InvalidReadings", READINGS, NO_READINGS)
+DIVIDED_KIND = ("InvalidPolynomial", (1, -1), NO_POLYNOMIALS + [()])
+DIVISOR_KIND = ("InvalidPolynomial", (0, -2, 1), NO_POLYNOMIALS + [()])
+# What may be passed whatever it is.
+ANY_KIND = (None, ((1, 1, 1),), [])
 MANY_KIND = ("InvalidNumber", 10, NO_NUMBERS)
 
 INTERFACE = {
@@ -151,13 +194,77 @@ INTERFACE = {
         "held_parts": {"line": LINE_KIND, "disc": DISC_KIND},
         "change_signs": {"line": LINE_KIND, "other": ("InvalidLine", THREE, NO_LINES)},
     },
+    boxes: {
+        "is_in_box": {"box": BOX_KIND, "line": LINE_KIND},
+        "box_range": {"box": BOX_KIND, "index": INDEX_KIND},
+        "box_counts": {"box": BOX_KIND, "pace": PACE_KIND},
+        "is_clear": {"box": BOX_KIND, "low": LOW_KIND, "high": HIGH_KIND},
+        "clashing_line": {"box": BOX_KIND, "low": LOW_KIND, "high": HIGH_KIND},
+        "clashing_orders": {"box": BOX_KIND, "most": MOST_KIND, "low": LOW_KIND, "high": HIGH_KIND},
+        "slowing_slots": {"box": BOX_KIND, "index": INDEX_KIND, "pace": PACE_KIND},
+        "quickening_slots": {"box": BOX_KIND, "index": INDEX_KIND, "pace": PACE_KIND},
+    },
+    answers: {
+        "answer_of": {"line": LINE_KIND, "disc": DISC_KIND, "other": DISC_KIND},
+        "answer_at": {"line": LINE_KIND, "disc": DISC_KIND, "other": DISC_KIND, "pace": PACE_KIND},
+        "answer_sign": {"line": LINE_KIND, "disc": DISC_KIND, "other": DISC_KIND, "point": PACE_POINT_KIND},
+        "still_paces": {"line": LINE_KIND, "disc": DISC_KIND, "other": DISC_KIND},
+        "loud_paces": {"line": LINE_KIND, "disc": DISC_KIND, "other": DISC_KIND},
+        "sign_lot": {"line": LINE_KIND, "disc": DISC_KIND, "other": DISC_KIND, "sign": SIGN_KIND},
+        "louder_lot": {"line": LINE_KIND, "disc": DISC_KIND, "other": DISC_KIND, "level": LEVEL_KIND},
+    },
+    amounts: {
+        "slot_polynomials": {"line": LINE_KIND, "slot": SLOT_KIND},
+        "with_amount": {"line": LINE_KIND, "slot": SLOT_KIND, "amount": AMOUNT_KIND},
+        "count_with": {"line": LINE_KIND, "slot": SLOT_KIND, "amount": AMOUNT_KIND, "pace": PACE_KIND},
+        "turning_amount": {"line": LINE_KIND, "slot": SLOT_KIND, "pace": PACE_KIND},
+        "counts_by_amount": {"line": LINE_KIND, "slot": SLOT_KIND, "pace": PACE_KIND},
+        "pace_limits": {"line": LINE_KIND, "slot": SLOT_KIND},
+        "amounts_slower": {"line": LINE_KIND, "slot": SLOT_KIND, "index": INDEX_KIND, "pace": PACE_KIND},
+    },
+    readings: {
+        "agrees": {"line": LINE_KIND, "readings": READINGS_KIND},
+        "amounts_left": {"line": LINE_KIND, "slot": SLOT_KIND, "readings": READINGS_KIND},
+        "slots_left": {"line": LINE_KIND, "readings": READINGS_KIND},
+        "parting_pace": {"line": LINE_KIND, "other": HELD_KIND},
+    },
+    papers: {
+        "twist_product": {"line": LINE_KIND, "pace": PACE_KIND, "shape": SHAPE_KIND, "other": SHAPE_KIND},
+        "quotient_of": {"line": LINE_KIND, "shape": MOVED_SHAPE_KIND},
+        "shapes_of": {"line": LINE_KIND, "pace": PACE_KIND},
+        "is_at_least": {"line": LINE_KIND, "pace": PACE_KIND, "count": COUNT_KIND, "value": ANY_KIND},
+        "is_at_most": {"line": LINE_KIND, "pace": PACE_KIND, "count": COUNT_KIND, "value": ANY_KIND},
+    },
+    backs: {
+        "line_of_answer": {"num": DIVIDED_KIND, "den": DIVISOR_KIND, "wall": LEVEL_KIND},
+        "greatest_stay": {"num": DIVIDED_KIND, "den": DIVISOR_KIND},
+        "rewalled": {"line": LINE_KIND, "wall": LEVEL_KIND},
+        "line_of_paces": {"free": DIVISOR_KIND, "held": DIVIDED_KIND},
+    },
+    machines: {
+        "machine_of": {"line": LINE_KIND},
+        "ungeared": {"machine": MACHINE_KIND},
+        "machine_end": {"machine": MACHINE_KIND},
+        "machine_paces": {"machine": MACHINE_KIND},
+        "slower_in": {"machine": MACHINE_KIND, "pace": PACE_KIND},
+        "root_answer": {"machine": MACHINE_KIND},
+        "hidden_end": {"machine": MACHINE_KIND},
+        "hidden_paces": {"machine": MACHINE_KIND},
+        "line_alike": {"machine": MACHINE_KIND},
+        "are_alike": {"machine": MACHINE_KIND, "other": OTHER_MACHINE_KIND},
+        "rerooted": {"machine": MACHINE_KIND, "disc": DISC_KIND},
+        "reroot_order": {"machine": MACHINE_KIND, "disc": DISC_KIND},
+    },
 }
-ASKED = {polynomials: ["is_polynomial"], points: ["is_knot", "is_point"], lots: ["is_lot"], lines: ["is_line"]}
+ASKED = {polynomials: ["is_polynomial"], points: ["is_knot", "is_point"], lots: ["is_lot"], lines: ["is_line"],
+         boxes: ["is_box"], machines: ["is_machine"]}
 
 
 def wrong_values(kind):
     """What is wrong for a kind: values that are wrong for all, and those told for it."""
     name, _, told = kind
+    if name is None:
+        return []
     always = ALWAYS_WRONG
     if name == "InvalidPolynomial":
         # What is no fraction may well be a polynomial.
@@ -167,6 +274,22 @@ def wrong_values(kind):
 
 def looks_like_a_polynomial(value):
     return type(value) is tuple and all(type(part) is int for part in value) and (not value or value[-1] != 0)
+
+
+def first_wrong_reading(value):
+    """The index that is told of what are no readings."""
+    if type(value) is not tuple:
+        return None
+    if len(value) == 0:
+        return 0
+    for index, reading in enumerate(value):
+        if index == 8 or type(reading) is not tuple or len(reading) != 2:
+            return index
+        if type(reading[1]) is not int or reading[1] < 0 or type(reading[0]) is not tuple:
+            return index
+        if len(reading[0]) != 2 or type(reading[0][0]) is not int or reading[0][0] <= 0:
+            return index
+    raise AssertionError("these are readings")
 
 
 def functions():
@@ -224,7 +347,10 @@ class WrongArguments(unittest.TestCase):
             with self.assertRaises(errors.ShaftError) as caught:
                 call()
             self.assertIs(kind, type(caught.exception))
-            self.assertIs(given, caught.exception.given)
+            if error == "InvalidReadings":
+                self.assertEqual(first_wrong_reading(given), caught.exception.index)
+            else:
+                self.assertIs(given, caught.exception.given)
 
     def test_each_wrong_by_itself(self):
         for function, kinds in functions():
@@ -238,7 +364,7 @@ class WrongArguments(unittest.TestCase):
         for function, kinds in functions():
             right = {name: kind[1] for name, kind in kinds.items()}
             for size in range(2, len(kinds) + 1):
-                for names in itertools.combinations(kinds, size):
+                for names in itertools.combinations([name for name in kinds if kinds[name][0]], size):
                     for wrong in (None, [], "no", Odd()):
                         if wrong is None and kinds[names[0]] is BOUND_KIND:
                             continue
@@ -254,12 +380,16 @@ class WrongArguments(unittest.TestCase):
             names = list(kinds)
             right = {name: kind[1] for name, kind in kinds.items()}
             for first in range(len(names)):
+                if kinds[names[first]][0] is None:
+                    continue
                 arguments = {**wrong, **{name: right[name] for name in names[:first]}}
                 self.check(function, arguments, kinds[names[first]][0], wrong[names[first]])
 
     def test_wrong_arguments_stay_as_they_are(self):
         for function, kinds in functions():
             for name, kind in kinds.items():
+                if kind[0] is None:
+                    continue
                 wrong = [[-2, 0, 1], {"a": [1]}]
                 before = copy.deepcopy(wrong)
                 with self.assertRaises(getattr(errors, kind[0])):
@@ -268,6 +398,7 @@ class WrongArguments(unittest.TestCase):
 
     def test_asked_whatever_it_is(self):
         told = {"is_polynomial": POLYNOMIAL_KIND, "is_point": POINT_KIND, "is_lot": LOT_KIND, "is_line": LINE_KIND,
+                "is_box": BOX_KIND, "is_machine": MACHINE_KIND,
                 "is_knot": ("InvalidPoint", KNOT, NO_POINTS + [FRACTION, (0, 1), (5, 1)])}
         for module, names in ASKED.items():
             for name in names:
