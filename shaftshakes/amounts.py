@@ -10,7 +10,7 @@ NOUGHT = (0, 1)
 ONE = (1, 1)
 
 
-def check_place(line, slot):
+def check_line_and_slot(line, slot):
     """Raise InvalidLine or InvalidSlot for what is no line, or no slot of it."""
     check_line(line)
     check_slot(line, slot)
@@ -30,20 +30,20 @@ def count_pieces(line, slot, pace):
 
 def slot_polynomials(line, slot):
     """Return the pair (A, B) of the slot's polynomials."""
-    check_place(line, slot)
+    check_line_and_slot(line, slot)
     return slot_pair(line, slot)
 
 
 def with_amount(line, slot, amount):
     """Return the line with the amount in the slot."""
-    check_place(line, slot)
+    check_line_and_slot(line, slot)
     check_amount(amount, 1)
     return with_number(line, slot, amount)
 
 
 def count_with(line, slot, amount, pace):
     """Return how many swings are slower than the pace with the amount in the slot."""
-    check_place(line, slot)
+    check_line_and_slot(line, slot)
     check_amount(amount, 1)
     check_pace(pace)
     return count_slower(with_number(line, slot, amount), pace)
@@ -51,21 +51,21 @@ def count_with(line, slot, amount, pace):
 
 def turning_amount(line, slot, pace):
     """Return the amount with which the pace is that of a swing; None if there is not just one."""
-    check_place(line, slot)
+    check_line_and_slot(line, slot)
     check_pace(pace)
     return turning_of(slot_pair(line, slot), pace)
 
 
 def counts_by_amount(line, slot, pace):
     """Return the stretches of amounts, ascending, with the number of slower swings in each."""
-    check_place(line, slot)
+    check_line_and_slot(line, slot)
     check_pace(pace)
     return count_pieces(line, slot, pace)
 
 
 def pace_limits(line, slot):
     """Return the pairs (LOWER, UPPER) of the limits of the paces of all swings."""
-    check_place(line, slot)
+    check_line_and_slot(line, slot)
     without, rise = slot_pair(line, slot)
     if not without:
         # A single disc, free at both ends, has the pace 0 with all inertias.
@@ -76,7 +76,7 @@ def pace_limits(line, slot):
 
 def amounts_slower(line, slot, index, pace):
     """Return the stretch of amounts with which the swing is slower than the pace; None if there is none."""
-    check_place(line, slot)
+    check_line_and_slot(line, slot)
     check_index(line, index)
     check_pace(pace)
     pieces = count_pieces(line, slot, pace)

@@ -1,6 +1,6 @@
 """Readings: pairs (PACE, COUNT) of a pace and how many swings are slower, and what they leave open."""
 
-from shaftshakes.amounts import check_place, count_pieces
+from shaftshakes.amounts import check_line_and_slot, count_pieces
 from shaftshakes.errors import InvalidReadings
 from shaftshakes.lines import check_line
 from shaftshakes.places import compare_places, fraction_between_places, fractions_around
@@ -73,7 +73,7 @@ def agrees(line, readings):
 
 def amounts_left(line, slot, readings):
     """Return the stretch of amounts with which the line agrees with all readings; None if there is none."""
-    check_place(line, slot)
+    check_line_and_slot(line, slot)
     check_readings(readings)
     return stretch_left(line, slot, readings)
 
