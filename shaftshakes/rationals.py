@@ -101,3 +101,15 @@ def is_amount(value):
 def is_index(value, size):
     """Tell whether a value, whatever it is, is a whole number from 0 on and below the size."""
     return is_whole(value) and 0 <= value < size
+
+
+def is_span(low, high):
+    """Tell whether two values, whatever they are, are fractions from 0 on, the second one greater."""
+    if not is_fraction_from_nought(low) or not is_fraction_from_nought(high):
+        return False
+    return compare_fractions(low, high) < 0
+
+
+def is_sign(value):
+    """Tell whether a value, whatever it is, is one of the whole numbers 1, 0 and -1."""
+    return is_whole(value) and -1 <= value <= 1

@@ -1,4 +1,4 @@
-"""Roots with how often they come, and how many of them are below a fraction where all are real."""
+"""Roots with how often they come, and how many of them lie where, all of them being real."""
 
 from shaftshakes.algebra import derivative
 from shaftshakes.cells import moved
@@ -41,10 +41,11 @@ def roots_told_often(polynomial):
     return [point for point, times in roots_with_times(polynomial) for _ in range(times)]
 
 
-def count_roots_below(polynomial, fraction):
-    """Return how many roots, all of them real, are below a fraction, counted as often as they come.
+def roots_below_and_at(polynomial, fraction):
+    """Return how many roots, all of them real, are below a fraction and how often it is one.
 
-    Where all roots are real, just as many are above 0 as there are sign changes in the numbers.
+    Roots are counted as often as they come. Where all are real, just as many are above 0 as there
+    are sign changes in the numbers.
     """
     top, bottom = fraction
     numbers = []
@@ -56,4 +57,15 @@ def count_roots_below(polynomial, fraction):
     equal = 0
     while row[equal] == 0:
         equal += 1
-    return len(row) - 1 - equal - count_changes(row)
+    return (len(row) - 1 - equal - count_changes(row), equal)
+
+
+def count_roots_below(polynomial, fraction):
+    """Return how many roots, all of them real, are below a fraction, counted as often as they come."""
+    return roots_below_and_at(polynomial, fraction)[0]
+
+
+def has_root_within(polynomial, low, high):
+    """Tell whether a polynomial, all of whose roots are real, has one from low up to high."""
+    below, equal = roots_below_and_at(polynomial, high)
+    return below + equal > count_roots_below(polynomial, low)

@@ -106,5 +106,21 @@ def random_machine(chance, size=None):
     return tuple(machine)
 
 
+def random_engine(chance, line=None, most_cranks=8):
+    """An engine of one to eight cranks, often with cranks in pairs that pull against one another."""
+    line = line or random_line(chance)
+    size = len(line[0])
+    weights = chance.choice([[1], [1, 1, -1], [1, 2, Fraction(1, 2), Fraction(-3, 4)]])
+    steps = chance.choice([[0, 6], [0, 3, 6, 9], [0, 4, 8], list(range(12))])
+    cranks = []
+    for _ in range(chance.randint(1, most_cranks)):
+        crank = (chance.randrange(size), chance.choice(steps), told(chance.choice(weights)))
+        cranks.append(crank)
+        if chance.random() < 0.5:
+            disc, twelfth, weight = crank
+            cranks.append((chance.choice([disc, size - 1 - disc]), (twelfth + 6) % 12, weight))
+    return (line, tuple(cranks[:most_cranks]))
+
+
 def sign(number):
     return (number > 0) - (number < 0)
