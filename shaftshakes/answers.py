@@ -7,7 +7,7 @@ from shaftshakes.lines import check_disc, check_line, check_pace
 from shaftshakes.lots import check_pace_point
 from shaftshakes.places import real_places, sign_at_place
 from shaftshakes.ratios import lowest_ratio, ratio_at
-from shaftshakes.rationals import is_fraction_from_nought, is_whole
+from shaftshakes.rationals import is_fraction_from_nought, is_sign
 from shaftshakes.runs import run_parts
 from shaftshakes.telling import told_points
 
@@ -17,6 +17,12 @@ def check_two_discs(line, disc, other):
     check_line(line)
     check_disc(line, disc)
     check_disc(line, other)
+
+
+def check_level(given):
+    """Raise InvalidFraction for what is no fraction from 0 on."""
+    if not is_fraction_from_nought(given):
+        raise InvalidFraction(given)
 
 
 def answer_pair(line, disc, other):
@@ -73,7 +79,7 @@ def loud_paces(line, disc, other):
 def sign_lot(line, disc, other, sign):
     """Return the lot of all paces at which the answer has the sign; endless it has none."""
     check_two_discs(line, disc, other)
-    if not is_whole(sign) or not -1 <= sign <= 1:
+    if not is_sign(sign):
         raise InvalidSign(sign)
     num, den = answer_pair(line, disc, other)
     # Where the answer is endless, the numerator alone is not 0.
@@ -85,8 +91,7 @@ def sign_lot(line, disc, other, sign):
 def louder_lot(line, disc, other, level):
     """Return the lot of all paces at which the answer is louder than the level, or endless."""
     check_two_discs(line, disc, other)
-    if not is_fraction_from_nought(level):
-        raise InvalidFraction(level)
+    check_level(level)
     num, den = answer_pair(line, disc, other)
     # Both together are m m NUM NUM - n n DEN DEN; apart, they have shorter numbers.
     above = blend(num, level[1], den, -level[0])

@@ -20,6 +20,13 @@ def is_reading(value):
     return is_amount(pace) and is_whole(count) and count >= 0
 
 
+def are_readings(value):
+    """Tell whether a value, whatever it is, is a tuple of one to eight readings."""
+    if not isinstance(value, tuple) or not 1 <= len(value) <= MOST_READINGS:
+        return False
+    return all([is_reading(reading) for reading in value])
+
+
 def check_readings(given):
     """Raise InvalidReadings for what is no tuple of one to eight readings."""
     if not isinstance(given, tuple):

@@ -21,13 +21,19 @@ def slots_of(line):
     return discs + [("shaft", place) for place in range(len(line[1]))]
 
 
+def is_slot(line, value):
+    """Tell whether a value, whatever it is, is a slot of the line."""
+    if not isinstance(value, tuple) or len(value) != 2:
+        return False
+    kind, place = value
+    if not isinstance(kind, str) or kind not in ("disc", "shaft"):
+        return False
+    return is_index(place, len(line[0] if kind == "disc" else line[1]))
+
+
 def check_slot(line, given):
     """Raise InvalidSlot for what is no slot of the line."""
-    if not isinstance(given, tuple) or len(given) != 2 or not isinstance(given[0], str):
-        raise InvalidSlot(given)
-    if given[0] not in ("disc", "shaft"):
-        raise InvalidSlot(given)
-    if not is_index(given[1], len(line[0] if given[0] == "disc" else line[1])):
+    if not is_slot(line, given):
         raise InvalidSlot(given)
 
 

@@ -5,8 +5,8 @@ import inspect
 import itertools
 import unittest
 
-from shaftshakes import amounts, answers, backs, boxes, changes, errors, lines, lots, machines, papers, points
-from shaftshakes import polynomials, readings, shapes
+from shaftshakes import amounts, answers, backs, boxes, certificates, changes, checker, errors, lines, lots, machines
+from shaftshakes import orders, papers, points, polynomials, readings, shapes, speeds, swallowers
 
 
 class Odd:
@@ -129,6 +129,21 @@ NO_READINGS = [None, 0, (), ((1, 2), 1), (((0, 1), 1),), (READINGS[0], None), RE
                (list(READINGS[0]),), (((1, 2), 1, 1),), ((KNOT, 1),), ((1, (1, 2)),), READINGS * 3 + ((1, 2),)]
 NO_PACES = NO_FRACTIONS + [None] + BELOW_NOUGHT
 
+SWALLOWER = (0, (1, 6), (2, 3))
+STOCK = (SWALLOWER, (2, (1, 20), (1, 5)))
+NO_STOCKS = [None, 0, (), SWALLOWER, list(STOCK), STOCK * 5, STOCK * 4 + (None,), (SWALLOWER, None), (SWALLOWER[:2],),
+             (SWALLOWER + (1,),), (SWALLOWER, (3,) + SWALLOWER[1:]), ((-1,) + SWALLOWER[1:],),
+             ((True,) + SWALLOWER[1:],), ((0, (0, 1), (1, 1)),), (SWALLOWER, SWALLOWER, (0, (1, 1), (0, 1))),
+             ((0, (1, 1), (2, 2)),), (list(SWALLOWER),)]
+CRANKS = ((0, 0, (1, 1)), (2, 11, (-3, 7)))
+ENGINE = (THREE, CRANKS)
+NO_ENGINES = [None, 0, (), THREE, CRANKS, BOX, (THREE,), (THREE, ()), (THREE, CRANKS, 0), (THREE, CRANKS * 5),
+              (CRANKS, THREE), [THREE, CRANKS], (THREE, list(CRANKS)), (THREE, CRANKS[0]), (THREE, (list(CRANKS[0]),)),
+              (None, CRANKS), (THREE, (CRANKS[0], None)), (THREE, ((3, 0, (1, 1)),)), (THREE, ((0, 12, (1, 1)),)),
+              (THREE, ((0, -1, (1, 1)),)), (THREE, ((0, True, (1, 1)),)), (THREE, ((0, 0, (0, 1)),)),
+              (THREE, ((0, 0, (2, 2)),)), (HELD, CRANKS)]
+NO_ORDERS = [None, (1, 1), (), "1", (1,), KNOT]
+
 NUMBER_KIND = ("InvalidNumber", 1, NO_INDEXES_OF_TWO)
 BOX_KIND = ("InvalidBox", BOX, NO_BOXES)
 MACHINE_KIND = ("InvalidMachine", MACHINE, NO_MACHINES)
@@ -145,6 +160,16 @@ COUNT_KIND = ("InvalidNumber", 1, NO_COUNTS)
 READINGS_KIND = ("InvalidReadings", READINGS, NO_READINGS)
 DIVIDED_KIND = ("InvalidPolynomial", (1, -1), NO_POLYNOMIALS + [()])
 DIVISOR_KIND = ("InvalidPolynomial", (0, -2, 1), NO_POLYNOMIALS + [()])
+INERTIA_KIND = ("InvalidAmount", (1, 12), NO_AMOUNTS)
+TUNED_KIND = ("InvalidPace", (3, 1), NO_AMOUNTS)
+LOW_AROUND_KIND = ("InvalidPace", (5, 2), NO_AMOUNTS + [(3, 1), (7, 2)])
+HIGH_AROUND_KIND = ("InvalidPace", (7, 2), NO_AMOUNTS + [(3, 1), (5, 2), (1, 2)])
+STOCK_KIND = ("InvalidStock", STOCK, NO_STOCKS)
+ENGINE_KIND = ("InvalidEngine", ENGINE, NO_ENGINES)
+ARRANGED_KIND = ("InvalidEngine", ENGINE, NO_ENGINES + [(THREE, CRANKS * 4), (THREE, CRANKS * 3 + CRANKS[:1])])
+ORDER_KIND = ("InvalidOrder", -5, NO_ORDERS)
+OTHER_ORDER_KIND = ("InvalidOrder", 0, NO_ORDERS)
+TURNING_KIND = ("InvalidOrder", -5, NO_ORDERS + [0])
 # What may be passed whatever it is.
 ANY_KIND = (None, ((1, 1, 1),), [])
 MANY_KIND = ("InvalidNumber", 10, NO_NUMBERS)
@@ -255,9 +280,52 @@ INTERFACE = {
         "rerooted": {"machine": MACHINE_KIND, "disc": DISC_KIND},
         "reroot_order": {"machine": MACHINE_KIND, "disc": DISC_KIND},
     },
+    swallowers: {
+        "with_swallower": {"machine": MACHINE_KIND, "disc": DISC_KIND, "inertia": INERTIA_KIND,
+                           "stiffness": INERTIA_KIND},
+        "still_paces_at": {"machine": MACHINE_KIND, "disc": DISC_KIND},
+        "tuned_inertia": {"machine": MACHINE_KIND, "disc": DISC_KIND, "tuned": TUNED_KIND, "pace": PACE_KIND},
+        "quiet_from": {"machine": MACHINE_KIND, "disc": DISC_KIND, "tuned": TUNED_KIND, "low": LOW_AROUND_KIND,
+                       "high": HIGH_AROUND_KIND},
+        "is_quiet": {"machine": MACHINE_KIND, "low": LOW_KIND, "high": HIGH_KIND},
+        "quiet_ones": {"machine": MACHINE_KIND, "stock": STOCK_KIND, "low": LOW_KIND, "high": HIGH_KIND},
+    },
+    orders: {
+        "stir_parts": {"engine": ENGINE_KIND, "order": ORDER_KIND},
+        "stirs": {"engine": ENGINE_KIND, "order": ORDER_KIND, "index": INDEX_KIND},
+        "silent_orders": {"engine": ENGINE_KIND, "index": INDEX_KIND},
+        "compare_stirs": {"engine": ENGINE_KIND, "order": ORDER_KIND, "other": OTHER_ORDER_KIND, "index": INDEX_KIND},
+        "quiet_arrangements": {"engine": ARRANGED_KIND, "order": ORDER_KIND, "index": INDEX_KIND},
+    },
+    speeds: {
+        "speed_of": {"engine": ENGINE_KIND, "order": TURNING_KIND, "index": INDEX_KIND},
+        "compare_speed": {"engine": ENGINE_KIND, "order": TURNING_KIND, "index": INDEX_KIND, "point": POINT_KIND},
+        "critical_speeds": {"engine": ENGINE_KIND, "most": MOST_KIND},
+        "clear_speeds": {"engine": ENGINE_KIND, "most": MOST_KIND},
+        "is_clear_speed": {"engine": ENGINE_KIND, "most": MOST_KIND, "low": LOW_KIND, "high": HIGH_KIND},
+    },
+    checker: {
+        "accepts": {"claim": ANY_KIND, "paper": ANY_KIND},
+    },
+    certificates: {
+        "certify_roots": {"polynomial": POLYNOMIAL_KIND},
+        "certify_least": {"line": LINE_KIND, "pace": PACE_KIND},
+        "certify_most": {"line": LINE_KIND, "pace": PACE_KIND},
+        "certify_rest": {"line": LINE_KIND, "index": INDEX_KIND, "disc": DISC_KIND},
+        "certify_box": {"box": BOX_KIND, "low": LOW_KIND, "high": HIGH_KIND},
+        "certify_louder": {"line": LINE_KIND, "disc": DISC_KIND, "other": DISC_KIND, "level": LEVEL_KIND,
+                           "pace": PACE_KIND},
+        "certify_signs": {"line": LINE_KIND, "disc": DISC_KIND, "other": DISC_KIND, "sign": SIGN_KIND},
+        "certify_left": {"line": LINE_KIND, "slot": SLOT_KIND, "readings": READINGS_KIND},
+        "certify_paces": {"line": LINE_KIND, "other": HELD_KIND},
+        "certify_line": {"num": DIVIDED_KIND, "den": DIVISOR_KIND, "wall": LEVEL_KIND},
+        "certify_alike": {"machine": MACHINE_KIND, "other": OTHER_MACHINE_KIND},
+        "certify_quiet": {"machine": MACHINE_KIND, "low": LOW_KIND, "high": HIGH_KIND},
+        "certify_stir": {"engine": ENGINE_KIND, "order": ORDER_KIND, "index": INDEX_KIND},
+    },
 }
 ASKED = {polynomials: ["is_polynomial"], points: ["is_knot", "is_point"], lots: ["is_lot"], lines: ["is_line"],
-         boxes: ["is_box"], machines: ["is_machine"]}
+         boxes: ["is_box"], machines: ["is_machine"], orders: ["is_engine"]}
 
 
 def wrong_values(kind):
@@ -290,6 +358,21 @@ def first_wrong_reading(value):
         if len(reading[0]) != 2 or type(reading[0][0]) is not int or reading[0][0] <= 0:
             return index
     raise AssertionError("these are readings")
+
+
+def first_wrong_swallower(value):
+    """The index that is told of what is no stock for MACHINE."""
+    if type(value) is not tuple or len(value) == 0:
+        return None
+    for index, swallower in enumerate(value):
+        if index == 8 or type(swallower) is not tuple or len(swallower) != 3:
+            return index
+        disc, *amounts_told = swallower
+        if type(disc) is not int or not 0 <= disc < len(MACHINE):
+            return index
+        if [each for each in amounts_told if type(each) is not tuple or each[0] <= 0 or each == (2, 2)]:
+            return index
+    raise AssertionError("this is a stock")
 
 
 def functions():
@@ -349,6 +432,8 @@ class WrongArguments(unittest.TestCase):
             self.assertIs(kind, type(caught.exception))
             if error == "InvalidReadings":
                 self.assertEqual(first_wrong_reading(given), caught.exception.index)
+            elif error == "InvalidStock":
+                self.assertEqual(first_wrong_swallower(given), caught.exception.index)
             else:
                 self.assertIs(given, caught.exception.given)
 
@@ -398,7 +483,7 @@ class WrongArguments(unittest.TestCase):
 
     def test_asked_whatever_it_is(self):
         told = {"is_polynomial": POLYNOMIAL_KIND, "is_point": POINT_KIND, "is_lot": LOT_KIND, "is_line": LINE_KIND,
-                "is_box": BOX_KIND, "is_machine": MACHINE_KIND,
+                "is_box": BOX_KIND, "is_machine": MACHINE_KIND, "is_engine": ENGINE_KIND,
                 "is_knot": ("InvalidPoint", KNOT, NO_POINTS + [FRACTION, (0, 1), (5, 1)])}
         for module, names in ASKED.items():
             for name in names:

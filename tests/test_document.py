@@ -2,6 +2,8 @@
 
 import unittest
 
+from shaftshakes.errors import ShaftError
+
 STAGE_ONE = """
 >>> from shaftshakes.points import compare_points, roots_of, sign_at
 >>> from shaftshakes.polynomials import common_divisor, count_roots, plain_polynomial, times_of, value_at
@@ -103,6 +105,65 @@ MACHINES = """
 [(((1, 1), (0, 1)), ((4, 1), (0, 1), 0, (4, 1), (1, 1))), (0, -5, 1), (((1, 1), (0, 1)), ((1, 1), (0, 1), 0, (4, 1), (1, 2))), (((1, 1), (0, 1)), ((1, 1), (0, 1), 0, (1, 1), (1, 1)), ((1, 1), (0, 1), 1, (1, 1), (1, 1)), ((1, 1), (0, 1), 1, (1, 1), (1, 1))), (2, 0, 1, 3), True, False]
 """
 
+SWALLOWERS = MACHINES + """>>> from shaftshakes.swallowers import is_quiet, quiet_from, quiet_ones, still_paces_at, tuned_inertia, with_swallower
+>>> lone = ((one, four),)
+>>> [quiet_from(lone, 0, four, (3, 1), (5, 1)), tuned_inertia(lone, 0, four, (3, 1)), tuned_inertia(lone, 0, four, four), with_swallower(lone, 0, (1, 12), (1, 3)), is_quiet(with_swallower(lone, 0, (1, 6), (2, 3)), (3, 1), (5, 1)), is_quiet(with_swallower(lone, 0, (1, 12), (1, 3)), (3, 1), (5, 1))]
+[(1, 12), (1, 12), None, (((1, 1), (4, 1)), ((1, 12), (0, 1), 0, (1, 3), (1, 1))), True, False]
+>>> [still_paces_at(star, 0), still_paces_at(lone, 0), quiet_from(star, 0, (1, 1), (1, 2), (2, 1)), quiet_from(star, 0, four, (3, 1), (5, 1)), quiet_ones(lone, ((0, (1, 6), (2, 3)), (0, (1, 20), (1, 5))), (3, 1), (5, 1))]
+[((1, 1),), (), None, (1, 8), (0,)]
+"""
+
+# What one and none are, the part on machines tells.
+ORDERS = """
+>>> one, none = (1, 1), (0, 1)
+>>> from shaftshakes.orders import compare_stirs, quiet_arrangements, silent_orders, stir_parts, stirs
+>>> from shaftshakes.speeds import clear_speeds, compare_speed, critical_speeds, is_clear_speed, speed_of
+>>> two = ((one, one), (none, one, none))
+>>> boxer = (two, ((0, 0, one), (1, 6, one)))
+>>> [stir_parts(boxer, 1), stir_parts((two, ((0, 0, one), (0, 1, one))), 1), stirs(boxer, 1, 0), stirs(boxer, 1, 1), silent_orders(boxer, 0), silent_orders(boxer, 1), compare_stirs(boxer, 1, 2, 1), compare_stirs(boxer, 1, -1, 1)]
+[((0, 1), (), (), ()), ((2,), (1,), (1,), ()), False, True, (1, 3, 5, 7, 9, 11), (0, 2, 4, 6, 8, 10), 1, 0]
+>>> four_cranks = (two, ((0, 0, one), (0, 3, one), (0, 6, one), (0, 9, one)))
+>>> [quiet_arrangements(boxer, 1, 0), len(quiet_arrangements(four_cranks, 1, 1)), quiet_arrangements(four_cranks, 4, 1)]
+[((0, 6),), 6, ()]
+>>> [critical_speeds(boxer, 3), speed_of(boxer, 3, 1), compare_speed(boxer, 3, 1, (1, 4)), is_clear_speed(boxer, 3, (1, 4), one), is_clear_speed(boxer, 3, (1, 5), one), clear_speeds(boxer, 1)]
+[((3, 1), (1, 1)), (2, 9), -1, True, False, (((0, 1), True, (2, 1), False), ((2, 1), False, None, False))]
+"""
+
+CONSOLES = STAGE_TWO + """>>> from shaftshakes.consoles import Console
+>>> from shaftshakes.workshops import Workshop
+>>> shop = Workshop()
+>>> console = Console(shop)
+>>> [console.say("put shaft: 1/1 1/1 1/1 | 0/1 1/1 1/1 0/1"), console.say("slower shaft: 2/1"), console.say("signs shaft: 1"), console.say("signs shaft: 3"), console.say("show shaft"), console.say("names")]
+['done', '2', '1 0 -1', 'none', '1/1 1/1 1/1 | 0/1 1/1 1/1 0/1', 'shaft']
+>>> [shop.wish(("slower", "shaft", (2, 1), 2)), shop.wish(("rests", "shaft", 1, 1)), shop.wish(("clear", "shaft", (3, 2), (5, 2))), len(shop)]
+[None, None, None, 4]
+>>> shop.put("shaft", heavy)
+raises Broken(index=2)
+>>> [shop.named("shaft") == three, console.say("undo"), len(shop), shop.wishes]
+[True, 'done', 3, (('slower', 'shaft', (2, 1), 2), ('rests', 'shaft', 1, 1))]
+"""
+
+CERTIFICATES = BOXES + """>>> pair = (((1, 1), (1, 1)), ((1, 1), (1, 1), (1, 1)))
+>>> twig = (one, none, 0, one, one)
+>>> star, geared = ((one, none), twig, twig, twig), ((one, none), (one, none, 0, one, (2, 1)))
+>>> from shaftshakes.certificates import certify_alike, certify_box, certify_least, certify_rest
+>>> from shaftshakes.checker import accepts
+>>> [accepts(("at least", pair, (2, 1), 1), ((1, 1),)), accepts(("at most", pair, (2, 1), 1), ((1, -1),)), accepts(("rests", three, 1, 1), ()), accepts(("moves", three, 1, 1), ()), accepts(("clashes", box, (5, 2), (11, 4)), with_disc(three, 1, (5, 4))), accepts(("clashes", box, (5, 2), (11, 4)), three)]
+[True, True, True, False, True, False]
+>>> [certify_least(three, (2, 1))[0], certify_rest(three, 1, 0), certify_box(box, (1, 2), (3, 4)), certify_alike(star, geared)[0][0]]
+[('at least', (((1, 1), (1, 1), (1, 1)), ((0, 1), (1, 1), (1, 1), (0, 1))), (2, 1), 2), (('moves', (((1, 1), (1, 1), (1, 1)), ((0, 1), (1, 1), (1, 1), (0, 1))), 1, 0), ()), (('clear', ((((1, 1), (2, 1), (1, 1)), ((0, 1), (1, 1), (1, 1), (0, 1))), (((1, 1), (1, 1), (1, 1)), ((0, 1), (1, 1), (1, 1), (0, 1)))), (1, 2), (3, 4)), ()), 'unlike']
+"""
+
+
+def error_of(code, names):
+    """What is raised, told as the document tells it."""
+    try:
+        eval(code, names)
+    except ShaftError as error:
+        told = ", ".join(f"{name}={value!r}" for name, value in vars(error).items())
+        return f"raises {type(error).__name__}({told})"
+    return "raises nothing"
+
 
 def played(session):
     """The pairs of what a session's rows give and what they are told to give."""
@@ -114,7 +175,9 @@ def played(session):
         if code == row:
             continue
         told = place + 1 < len(rows) and not rows[place + 1].startswith(">>> ")
-        if told:
+        if told and rows[place + 1].startswith("raises "):
+            pairs.append((error_of(code, names), rows[place + 1]))
+        elif told:
             pairs.append((eval(code, names), eval(rows[place + 1])))
         else:
             exec(code, names)
@@ -148,6 +211,23 @@ class Document(unittest.TestCase):
 
     def test_backs_and_machines(self):
         self.check(MACHINES, 4)
+
+    def test_swallowers(self):
+        self.check(SWALLOWERS, 6)
+
+    def test_orders_and_speeds(self):
+        self.check(ORDERS, 3)
+
+    def test_workshops_and_consoles(self):
+        self.check(CONSOLES, 11)
+
+    def test_checker_and_certificates(self):
+        self.check(CERTIFICATES, 10)
+
+    def test_all_as_one_session(self):
+        rest = [ANSWERS, READINGS[len(ANSWERS):], PAPERS[len(ANSWERS):], SWALLOWERS, ORDERS, CONSOLES[len(STAGE_TWO):],
+                CERTIFICATES[len(BOXES):]]
+        self.check(STAGE_ONE + BOXES + "".join(rest), 40)
 
 
 if __name__ == "__main__":

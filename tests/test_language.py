@@ -161,17 +161,62 @@ class Code(unittest.TestCase):
                     self.assertIsInstance(node.right, ast.Constant)
                     self.assertIn(node.right.value, range(65))
                 if isinstance(node, ast.FunctionDef):
-                    self.assertEqual([], node.decorator_list)
+                    self.assertLessEqual({ast.unparse(each) for each in node.decorator_list}, {"property"})
                     self.assertEqual([], node.args.defaults)
 
-    def test_is_stands_beside_none_true_and_false(self):
+    def test_is_stands_beside_none_true_and_false_and_self(self):
         for place, node in self.each():
             with self.subTest(place=place):
-                if isinstance(node, ast.Compare):
+                if isinstance(node, ast.Compare) and ast.unparse(node) != "self is other":
                     for sign, right in zip(node.ops, node.comparators):
                         if isinstance(sign, (ast.Is, ast.IsNot)):
                             self.assertIsInstance(right, ast.Constant)
                             self.assertIn(right.value, (None, True, False))
+
+    def test_classes(self):
+        for name in package_files():
+            for top in ast.parse(source_of(name)).body:
+                if not isinstance(top, ast.ClassDef):
+                    continue
+                with self.subTest(file=name, name=top.name):
+                    self.assertEqual([], top.decorator_list)
+                    methods = [node for node in top.body if isinstance(node, ast.FunctionDef)]
+                    docstrings = [node for node in top.body if isinstance(node, ast.Expr)]
+                    self.assertEqual(len(top.body), len(methods) + len(docstrings))
+                    names = [method.name for method in methods]
+                    self.assertEqual(sorted(set(names)), sorted(names))
+                    attributes = {node.attr for node in ast.walk(top) if isinstance(node, ast.Attribute)
+                                  and isinstance(node.ctx, ast.Store)}
+                    self.assertEqual(set(), attributes & set(names))
+                    for method in methods:
+                        if method.name == "__exit__":
+                            self.check_exit(method)
+
+    def check_exit(self, method):
+        """Only what may stand in the rows of __exit__: names and attributes assigned, and `kind is not None`."""
+        self.assertEqual("self, kind, value, trace", ast.unparse(method.args))
+        for node in ast.walk(method):
+            if isinstance(node, ast.stmt) and node is not method:
+                self.assertIsInstance(node, (ast.Assign, ast.If))
+            if isinstance(node, ast.Assign):
+                self.assertIsInstance(node.targets[0], (ast.Name, ast.Attribute))
+                self.assertIsInstance(node.value, ast.Attribute)
+            if isinstance(node, ast.If):
+                self.assertEqual("kind is not None", ast.unparse(node.test))
+
+    def test_stars_stand_before_names(self):
+        for place, node in self.each():
+            with self.subTest(place=place):
+                if isinstance(node, ast.Starred):
+                    self.assertIsInstance(node.value, ast.Name)
+
+    def test_words_that_do_not_occur(self):
+        for name in package_files():
+            with self.subTest(file=name):
+                self.assertNotIn("_wall", source_of(name))
+                self.assertNotIn("_WallAttr", source_of(name))
+                for word in ("dataclass", "overload", "contextmanager"):
+                    self.assertNotIn(word, source_of(name))
 
     def test_handlers_name_errors_that_may_be_caught(self):
         for place, node in self.each():
