@@ -1,13 +1,11 @@
 """Boxes: pairs (SLOW, FAST) of lines, and what is so for all lines between them."""
 
-from shaftshakes.errors import InvalidBox, InvalidNumber
-from shaftshakes.lines import check_index, check_line, check_pace, check_span, is_line
-from shaftshakes.rationals import compare_fractions, is_index, lowest
+from shaftshakes.errors import InvalidBox
+from shaftshakes.lines import check_index, check_line, check_most, check_pace, check_span, is_line
+from shaftshakes.rationals import compare_fractions, lowest
 from shaftshakes.runs import count_not_faster, count_slower, end_places
 from shaftshakes.slots import number_in, slot_pair, slots_of, turning_of, with_number
 from shaftshakes.telling import told_points
-
-MOST_ORDER = 30
 
 
 def is_not_above(row, other):
@@ -103,8 +101,7 @@ def clashing_line(box, low, high):
 def clashing_orders(box, most, low, high):
     """Return the ascending tuple of the orders with which some line of the box has a pace in a stretch."""
     check_box(box)
-    if not is_index(most, MOST_ORDER + 1) or most < 1:
-        raise InvalidNumber(most)
+    check_most(most)
     check_span(low, high)
     orders = []
     for order in range(1, most + 1):

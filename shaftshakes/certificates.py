@@ -5,7 +5,7 @@ from shaftshakes.answers import check_level, check_two_discs, sign_lot
 from shaftshakes.backs import line_of_answer
 from shaftshakes.boxes import clashing_line
 from shaftshakes.checker import is_louder
-from shaftshakes.lines import check_disc, check_pace
+from shaftshakes.lines import check_disc
 from shaftshakes.machines import are_alike, root_answer
 from shaftshakes.orders import stirs
 from shaftshakes.papers import shapes_of, twist_product
@@ -84,7 +84,6 @@ def certify_louder(line, disc, other, level, pace):
     """Tell whether the answer is louder than the level at the pace, or endless."""
     check_two_discs(line, disc, other)
     check_level(level)
-    check_pace(pace)
     kind = "louder" if is_louder(line, disc, other, level, pace) else "not louder"
     return ((kind, line, disc, other, level, pace), ())
 

@@ -50,7 +50,7 @@ def told_signs(line, index):
     """Return the signs of a swing with blanks between."""
     if not is_index(index, len(line[0])):
         return NONE
-    return " ".join([str(sign) for sign in signs_of(line, index)])
+    return " ".join([text_of_whole(sign) for sign in signs_of(line, index)])
 
 
 def told_of_line(word, line, thing):

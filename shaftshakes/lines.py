@@ -4,11 +4,12 @@ from shaftshakes.errors import InvalidDisc, InvalidIndex, InvalidLine
 from shaftshakes.errors import InvalidNumber, InvalidPace, InvalidShaft
 from shaftshakes.places import compare_places
 from shaftshakes.points import check_point
-from shaftshakes.rationals import compare_fractions, count_changes, is_fraction_from_nought, is_index
+from shaftshakes.rationals import count_changes, is_fraction_from_nought, is_index, is_span
 from shaftshakes.runs import count_slower, end_places, run_signs, thinned_run
 from shaftshakes.telling import told_points
 
 MOST_DISCS = 8
+MOST_ORDER = 30
 
 
 def is_row_of_fractions(value, size):
@@ -63,9 +64,14 @@ def check_pace(given):
 def check_span(low, high):
     """Raise InvalidPace for what is no fraction from 0 on, and for a higher one that is not above."""
     check_pace(low)
-    check_pace(high)
-    if compare_fractions(low, high) >= 0:
+    if not is_span(low, high):
         raise InvalidPace(high)
+
+
+def check_most(given):
+    """Raise InvalidNumber for what is no whole number from 1 up to the greatest order that is let."""
+    if not is_index(given, MOST_ORDER + 1) or given == 0:
+        raise InvalidNumber(given)
 
 
 def run_of(line):

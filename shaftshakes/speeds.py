@@ -1,30 +1,23 @@
 """Speeds, told by their squares: where an order of an engine meets a swing that it stirs."""
 
 from shaftshakes.conditions import lot_of_parts
-from shaftshakes.errors import InvalidNumber, InvalidOrder
-from shaftshakes.lines import check_index, check_span
+from shaftshakes.errors import InvalidOrder
+from shaftshakes.lines import check_index, check_most, check_span
 from shaftshakes.orders import check_engine
 from shaftshakes.places import compare_places, fraction_place, real_places
 from shaftshakes.points import check_point
-from shaftshakes.rationals import is_index, is_whole, lowest
+from shaftshakes.rationals import is_whole, lowest
 from shaftshakes.runs import end_places, thinned_run
 from shaftshakes.stirs import TWELFTHS, is_stir, pushes_of, stir_of, twelfths_of
 from shaftshakes.telling import told_points
 
 NOUGHT = (0, 1)
-MOST_ORDER = 30
 
 
 def check_turning_order(given):
     """Raise InvalidOrder for what is no whole number, and for 0."""
     if not is_whole(given) or given == 0:
         raise InvalidOrder(given)
-
-
-def check_most(given):
-    """Raise InvalidNumber for what is no whole number from 1 up to the greatest order that is let."""
-    if not is_index(given, MOST_ORDER + 1) or given == 0:
-        raise InvalidNumber(given)
 
 
 def speed_places(line, order):

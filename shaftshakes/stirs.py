@@ -15,12 +15,10 @@ QUARTER = 3
 
 
 def thinned_all(polynomials):
-    """Return polynomials divided by the divisor that all their numbers share; () as they are."""
+    """Return the tuple of polynomials divided by the divisor that all their numbers share; () stays ()."""
     shared = 0
     for polynomial in polynomials:
         shared = content((shared,) + polynomial)
-    if shared == 0:
-        return tuple(polynomials)
     return tuple([shrunk(polynomial, shared) for polynomial in polynomials])
 
 

@@ -52,9 +52,9 @@ def whole_of_text(text):
 
 def fraction_of_text(text):
     """Return the fraction that has the text; None if none has."""
-    top, slash, bottom = text.partition("/")
+    top, _, bottom = text.partition("/")
     fraction = (whole_of_text(top), whole_of_text(bottom))
-    return fraction if slash and is_fraction(fraction) else None
+    return fraction if is_fraction(fraction) else None
 
 
 def line_of_text(text):

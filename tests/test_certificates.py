@@ -118,16 +118,14 @@ class Ordinary(Check):
         # At 0 just one is endless.
         self.certified(certify_alike(STAR, LONE), "unlike", STAR, LONE)
 
-    def test_unlike_ones_that_are_the_same_at_many_paces(self):
-        # Both are 0 at 1, endless at 0; answers that are alike at the first whole numbers are told apart at last.
-        first, second = root_answer(STAR), root_answer(GEARED)
-        claim, paper = certify_alike(STAR, GEARED)
-        pace = Fraction(*paper)
-        below = [oracle.value(den, pace) for _, den in (first, second)]
-        if all(below):
-            self.assertNotEqual(oracle.value(first[0], pace) / below[0], oracle.value(second[0], pace) / below[1])
-        else:
-            self.assertTrue(any(below))
+    def test_unlike_ones_that_are_the_same_at_some_paces(self):
+        # At 0 both answers are 1 / 4.
+        other = ((ONE, FOUR), TWIG)
+        self.assertEqual([1, 1], [4 * Fraction(oracle.value(num, 0)) / oracle.value(den, 0)
+                                  for num, den in (root_answer(LONE), root_answer(other))])
+        self.assertNotEqual(NONE, self.certified(certify_alike(LONE, other), "unlike", LONE, other))
+        # At 0 both are endless, at 1 both are 0.
+        self.assertNotIn(self.certified(certify_alike(STAR, GEARED), "unlike", STAR, GEARED), (NONE, ONE))
 
     def test_quiet_and_stir(self):
         self.plain(certify_quiet(STAR, (3, 2), (7, 2)), "quiet", STAR, (3, 2), (7, 2))

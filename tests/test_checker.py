@@ -2,8 +2,8 @@
 
 import unittest
 
-from test_conventions import ALWAYS_WRONG, Odd
-
+from odd import Odd
+from test_conventions import ALWAYS_WRONG
 from shaftshakes.answers import sign_lot
 from shaftshakes.boxes import is_in_box
 from shaftshakes.changes import with_disc, with_shaft

@@ -6,6 +6,7 @@ from fractions import Fraction
 from unittest import mock
 
 from chance import random_line, random_number, told
+from odd import Odd
 from shaftshakes.consoles import Console
 from shaftshakes.errors import Broken, InUse, InvalidPhrase, NothingToUndo, NotAWorkshop, ShaftError, UnknownName
 from shaftshakes.lines import slower_count
@@ -17,16 +18,6 @@ ONE, NONE = (1, 1), (0, 1)
 TWO = ((ONE, ONE), (NONE, ONE, NONE))
 THREE = ((ONE, ONE, ONE), (NONE, ONE, ONE, NONE))
 TOLD = "1/1 1/1 1/1 | 0/1 1/1 1/1 0/1"
-
-
-class Odd:
-    def __eq__(self, other):
-        raise RuntimeError("compared")
-
-    def __bool__(self):
-        raise RuntimeError("tested")
-
-    __hash__ = None
 
 
 def text(line):

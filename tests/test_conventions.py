@@ -5,26 +5,9 @@ import inspect
 import itertools
 import unittest
 
+from odd import Odd
 from shaftshakes import amounts, answers, backs, boxes, certificates, changes, checker, errors, lines, lots, machines
 from shaftshakes import orders, papers, points, polynomials, readings, shapes, speeds, swallowers
-
-
-class Odd:
-    """A value that resents being looked at."""
-
-    def __eq__(self, other):
-        raise RuntimeError("compared")
-
-    def __bool__(self):
-        raise RuntimeError("tested")
-
-    def __len__(self):
-        raise RuntimeError("measured")
-
-    def __iter__(self):
-        raise RuntimeError("iterated over")
-
-    __hash__ = None
 
 
 def nested(depth):

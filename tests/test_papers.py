@@ -6,6 +6,7 @@ from fractions import Fraction
 
 import oracle
 from chance import random_line, random_number, told
+from odd import Odd
 from shaftshakes.errors import InvalidLine, InvalidNumber, InvalidPace, InvalidShape
 from shaftshakes.lines import compare_pace, slower_count
 from shaftshakes.papers import is_at_least, is_at_most, quotient_of, shapes_of, twist_product
@@ -14,16 +15,6 @@ ONE, NONE = (1, 1), (0, 1)
 PAIR = ((ONE, ONE), (ONE, ONE, ONE))
 THREE = ((ONE, ONE, ONE), (NONE, ONE, ONE, NONE))
 FREE = ((ONE,), (NONE, NONE))
-
-
-class Odd:
-    def __eq__(self, other):
-        raise RuntimeError("compared")
-
-    def __bool__(self):
-        raise RuntimeError("tested")
-
-    __hash__ = None
 
 
 def product(line, pace, first, second):

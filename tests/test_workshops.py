@@ -5,6 +5,7 @@ import unittest
 from unittest import mock
 
 from chance import random_line, random_number
+from odd import Odd
 from shaftshakes.answers import answer_of
 from shaftshakes.backs import rewalled
 from shaftshakes.changes import change_signs, with_disc
@@ -21,21 +22,6 @@ HEAVY = with_disc(THREE, 1, (2, 1))
 HELD = ((ONE, ONE), (ONE, ONE, NONE))
 FREE = rewalled(HELD, NONE)
 NAMES = ["a", "bb", "shaft", "abcdefghijkl", "zzz"]
-
-
-class Odd:
-    """A value that resents being looked at."""
-
-    def __eq__(self, other):
-        raise RuntimeError("compared")
-
-    def __bool__(self):
-        raise RuntimeError("tested")
-
-    def __len__(self):
-        raise RuntimeError("measured")
-
-    __hash__ = None
 
 
 class Failure(BaseException):
