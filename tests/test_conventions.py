@@ -6,8 +6,8 @@ import itertools
 import unittest
 
 from odd import Odd
-from shaftshakes import amounts, answers, backs, boxes, certificates, changes, checker, errors, lines, lots, machines
-from shaftshakes import orders, papers, points, polynomials, readings, shapes, speeds, swallowers
+from shaftshakes import amounts, answers, backs, boxes, certificates, changes, checker, consoles, errors, lines, lots
+from shaftshakes import machines, orders, papers, points, polynomials, readings, shapes, speeds, swallowers, workshops
 
 
 def nested(depth):
@@ -403,6 +403,28 @@ class Interface(unittest.TestCase):
         for function, kinds in functions():
             with self.subTest(function=function.__name__):
                 check(function(*[kind[1] for kind in kinds.values()]))
+
+
+class Classes(unittest.TestCase):
+    def test_methods_stand_in_their_own_class(self):
+        told = {workshops.Workshop: {"put": ["name", "line"], "drop": ["name"], "wish": ["wish"], "lift": ["index"],
+                                     "named": ["name"], "undo": [], "trial": [], "tried": ["action"]},
+                consoles.Console: {"say": ["text"]}}
+        for kind, methods in told.items():
+            for name, parameters in methods.items():
+                with self.subTest(kind=kind.__name__, name=name):
+                    self.assertIn(name, vars(kind))
+                    self.assertEqual(["self"] + parameters, list(inspect.signature(vars(kind)[name]).parameters))
+        for name in ("names", "wishes"):
+            self.assertIs(property, type(vars(workshops.Workshop)[name]))
+        for name in ("__len__", "__contains__", "__bool__", "__eq__"):
+            self.assertIn(name, vars(workshops.Workshop))
+
+    def test_each_is_made_as_told_and_stands_in_its_own_file(self):
+        self.assertEqual([], list(inspect.signature(workshops.Workshop).parameters))
+        self.assertEqual(["shop"], list(inspect.signature(consoles.Console).parameters))
+        self.assertEqual("shaftshakes.workshops", workshops.Workshop.__module__)
+        self.assertEqual("shaftshakes.consoles", consoles.Console.__module__)
 
 
 class WrongArguments(unittest.TestCase):

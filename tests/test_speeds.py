@@ -24,6 +24,8 @@ DOUBLE = (((ONE, ONE), (ONE, (3, 2), ONE)), ((0, 0, ONE),))
 # All orders stir the swing with the pace 0, and none the other one.
 SILENT = (TWO, ((0, 0, ONE), (1, 0, ONE)))
 ALL = ((NONE, True, None, False),)
+# Its paces are 3 - root 5, 3 + root 5 and four times so much: the second one and the last one.
+FOUR_TIMES = line_of_paces(multiplied((4, -6, 1), (64, -24, 1)), multiplied((-2, 1), (-4, 1), (-10, 1)))
 
 
 def speed(engine, order, index):
@@ -80,6 +82,15 @@ class Of(unittest.TestCase):
             else:
                 self.assertIs(tuple, type(point[0]))
 
+    def test_far_orders_have_short_knots_where_there_are_such(self):
+        # All four paces together would have numbers of 640 figures, two of them have some of 320.
+        engine = (FOUR_TIMES, ((0, 0, ONE),))
+        for index in range(4):
+            point = speed_of(engine, 10 ** 80, index)
+            self.assertLess(max(abs(number) for number in point[0]), 10 ** 400)
+            self.assertIs(True, is_point(point))
+            self.assertEqual(0, compare_speed(engine, -10 ** 80, index, point))
+
     def test_compared(self):
         self.assertEqual([-1, 0, 1, 1], [compare_speed(BOXER, 3, 1, point) for point in ((1, 4), (2, 9), (1, 5), (-9, 1))])
         self.assertEqual([0, -1], [compare_speed(BOXER, 3, 0, point) for point in (NONE, (1, 10 ** 90))])
@@ -113,9 +124,7 @@ class Critical(unittest.TestCase):
         self.assertEqual(((4, 0), (3, 0), (2, 0), (4, 1), (3, 1), (1, 0), (2, 1), (1, 1)), critical_speeds(DOUBLE, 4))
 
     def test_the_same_with_knots(self):
-        # The paces are 3 - root 5, 3 + root 5 and four times so much: the second one and the last one.
-        engine = (line_of_paces(multiplied((4, -6, 1), (64, -24, 1)), multiplied((-2, 1), (-4, 1), (-10, 1))),
-                  ((0, 0, ONE),))
+        engine = (FOUR_TIMES, ((0, 0, ONE),))
         self.assertEqual([0, 0], [compare_points(speed_of(engine, 2, index + 1), speed_of(engine, 1, index))
                                   for index in (0, 2)])
         self.assertEqual(((2, 0), (1, 0), (2, 1), (2, 2), (1, 1), (1, 2), (2, 3), (1, 3)), critical_speeds(engine, 2))
